@@ -1,9 +1,10 @@
-package calc
+package calc_test
 
 import (
 	"testing"
 
 	"soffit/api"
+	"soffit/calc"
 	"soffit/expr"
 	"soffit/value"
 )
@@ -21,13 +22,13 @@ func TestEqualAndLess(t *testing.T) {
 		{yes, yes, yes, null}, {no, yes, no, null}, {day(1), day(2), no, yes}, {day(2), day(2), yes, no}, {day(1), num(1), null, null}, {day(0), bit(0), null, null},
 		{api.Value{N: 1}, api.Value{N: 1}, null, null}, {bit(2), bit(2), null, null}, {null, bit(2), null, null}, {api.Value{Kind: 7}, null, null, null}, {num(1), api.Value{Kind: api.Number, Dec: api.Dec{N: 20, Scale: 1}}, null, null},
 	} {
-		if got := Equal(c.a, c.b); got != c.equal {
+		if got := calc.Equal(c.a, c.b); got != c.equal {
 			t.Errorf("Equal(%v, %v): %v", c.a, c.b, got)
 		}
-		if got := Equal(c.b, c.a); got != c.equal {
+		if got := calc.Equal(c.b, c.a); got != c.equal {
 			t.Errorf("Equal(%v, %v): %v", c.b, c.a, got)
 		}
-		if got := Less(c.a, c.b); got != c.less {
+		if got := calc.Less(c.a, c.b); got != c.less {
 			t.Errorf("Less(%v, %v): %v", c.a, c.b, got)
 		}
 	}
@@ -47,7 +48,7 @@ func TestEval(t *testing.T) {
 		if e != api.OK {
 			t.Fatalf("%s: %d", s, e)
 		}
-		v, e := Eval(x, list...)
+		v, e := calc.Eval(x, list...)
 		if got, _ := value.Text(v); got != want || e != api.OK {
 			t.Errorf("%s: %s, %d", s, got, e)
 		}
@@ -65,11 +66,11 @@ func TestWrongEval(t *testing.T) {
 		{x, []api.Binding{{Name: "c", Value: bit(2)}}, api.ErrForm}, {x, []api.Binding{{Name: "a"}, {Name: "b"}, {Name: "b", Value: api.Value{Kind: 9}}}, api.ErrForm},
 		{api.Expr{Op: api.OpIf, Kids: []api.Expr{{Op: api.OpValue}, {Op: api.OpName, Name: "q"}, {Op: api.OpValue}}}, nil, api.ErrName}, {api.Expr{Op: api.OpNeg}, []api.Binding{{Name: "a"}}, api.ErrForm},
 	} {
-		if v, e := Eval(c.x, c.list...); v != (api.Value{}) || e != c.e {
+		if v, e := calc.Eval(c.x, c.list...); v != (api.Value{}) || e != c.e {
 			t.Errorf("%v: %v, %d", c.x, v, e)
 		}
 	}
-	if v, e := Eval(api.Expr{Op: api.OpValue, Value: num(1)}); v != num(1) || e != api.OK {
+	if v, e := calc.Eval(api.Expr{Op: api.OpValue, Value: num(1)}); v != num(1) || e != api.OK {
 		t.Errorf("no bindings: %v, %d", v, e)
 	}
 }

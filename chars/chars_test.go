@@ -1,4 +1,4 @@
-package chars
+package chars_test
 
 import (
 	"strings"
@@ -6,6 +6,7 @@ import (
 	"unicode/utf8"
 
 	"soffit/api"
+	"soffit/chars"
 )
 
 func TestBad(t *testing.T) {
@@ -15,10 +16,10 @@ func TestBad(t *testing.T) {
 		"a\xff": 1, "\xc0\x80": 0, "\xe0\x80\x80": 0, "ab\xed\xa0\x80": 2, "\xf4\x90\x80\x80": 0, "\xc3": 0, "x\xe2\x82": 1,
 		"\ufffd\xff": 3, "\x80": 0, "\xf0\x82\x82\xac": 0, "é\x01\x02": 2, "\xc1\xbf": 0,
 	} {
-		if got := Bad(s); got != want {
+		if got := chars.Bad(s); got != want {
 			t.Errorf("Bad(%q): %d, want %d", s, got, want)
 		}
-		if Good(s) != (want == -1) {
+		if chars.Good(s) != (want == -1) {
 			t.Errorf("Good(%q)", s)
 		}
 	}
@@ -31,17 +32,17 @@ func TestEveryCharacter(t *testing.T) {
 		if r >= 0xd800 && r < 0xe000 {
 			continue // string(r) would be another character
 		}
-		if Good(s) != want {
+		if chars.Good(s) != want {
 			t.Fatalf("%x", r)
 		}
 		if !want {
 			continue
 		}
-		e, err := Escape(s)
+		e, err := chars.Escape(s)
 		if err != api.OK || strings.ContainsAny(e, "<>\"'\t\n\r") {
 			t.Fatalf("%x: %q, %d", r, e, err)
 		}
-		if u, at, err := Unescape(e); u != s || at != 0 || err != api.OK {
+		if u, at, err := chars.Unescape(e); u != s || at != 0 || err != api.OK {
 			t.Fatalf("%x: %q, %d, %d", r, u, at, err)
 		}
 	}
@@ -53,7 +54,7 @@ func TestName(t *testing.T) {
 		"aé": false, "a\xff": false, "@": false, "[": false, "`": false, "{": false, "a/": false, "a:": false,
 		strings.Repeat("a", 32): true, strings.Repeat("a", 33): false,
 	} {
-		if Name(s) != want {
+		if chars.Name(s) != want {
 			t.Errorf("Name(%q) is not %v", s, want)
 		}
 	}
@@ -63,12 +64,12 @@ func TestEscape(t *testing.T) {
 	for s, want := range map[string]string{
 		"": "", "plain é": "plain é", "&<>\"'\t\n\r": "&amp;&lt;&gt;&quot;&apos;&#9;&#10;&#13;", "&amp;": "&amp;amp;", "\ufffd": "\ufffd",
 	} {
-		if got, e := Escape(s); got != want || e != api.OK {
+		if got, e := chars.Escape(s); got != want || e != api.OK {
 			t.Errorf("Escape(%q): %q, %d", s, got, e)
 		}
 	}
 	for _, s := range []string{"a\x00", "\xff", "&\ufffe"} {
-		if got, e := Escape(s); got != "" || e != api.ErrChar {
+		if got, e := chars.Escape(s); got != "" || e != api.ErrChar {
 			t.Errorf("Escape(%q): %q, %d", s, got, e)
 		}
 	}
@@ -79,7 +80,7 @@ func TestUnescape(t *testing.T) {
 		"": "", "a>b\"'": "a>b\"'", "&amp;lt;": "&lt;", "&lt;&gt;&quot;&apos;&amp;": "<>\"'&", "&#65;&#x41;&#x0000004a;&#00000066;": "AAJB",
 		"&#9;&#10;&#13;": "\t\n\r", "&#xFFFD;&#xfffd;": "\ufffd\ufffd", "\ufffd": "\ufffd", "&#x10FFFF;": "\U0010ffff", "é&#233;": "éé",
 	} {
-		if got, at, e := Unescape(s); got != want || at != 0 || e != api.OK {
+		if got, at, e := chars.Unescape(s); got != want || at != 0 || e != api.OK {
 			t.Errorf("Unescape(%q): %q, %d, %d", s, got, at, e)
 		}
 	}
@@ -95,7 +96,7 @@ func TestUnescape(t *testing.T) {
 		{"&#xFFFE;", 0, api.ErrName}, {"&#x110000;", 0, api.ErrName}, {"&#xFFFFFFFF;", 0, api.ErrName}, {"&#99999999;", 0, api.ErrName},
 		{"&lt;&nbsp;<", 4, api.ErrName}, {"&#-1;", 0, api.ErrName}, {"&a\xffmp;", 0, api.ErrName}, {"&amp ;", 0, api.ErrName}, {"&#x41\xff", 0, api.ErrName},
 	} {
-		if got, at, e := Unescape(c.s); got != "" || at != c.at || e != c.e {
+		if got, at, e := chars.Unescape(c.s); got != "" || at != c.at || e != c.e {
 			t.Errorf("Unescape(%q): %q, %d, %d", c.s, got, at, e)
 		}
 	}

@@ -1,4 +1,4 @@
-package deci
+package deci_test
 
 import (
 	"math"
@@ -8,11 +8,12 @@ import (
 	"testing"
 
 	"soffit/api"
+	"soffit/deci"
 )
 
 func dec(t *testing.T, s string) api.Dec {
 	t.Helper()
-	d, e := Parse(s)
+	d, e := deci.Parse(s)
 	if e != api.OK {
 		t.Fatalf("Parse(%q): %d", s, e)
 	}
@@ -42,7 +43,7 @@ func TestMake(t *testing.T) {
 		{api.MaxCoef + 1, 6, api.Dec{}, api.ErrRange}, {math.MinInt, 0, api.Dec{}, api.ErrRange},
 		{1, -1, api.Dec{}, api.ErrRange}, {1, 7, api.Dec{}, api.ErrRange}, {10, 7, api.Dec{}, api.ErrRange},
 	} {
-		if d, e := Make(c.n, c.scale); d != c.want || e != c.e {
+		if d, e := deci.Make(c.n, c.scale); d != c.want || e != c.e {
 			t.Errorf("Make(%d, %d): %v, %d", c.n, c.scale, d, e)
 		}
 	}
@@ -50,12 +51,12 @@ func TestMake(t *testing.T) {
 
 func TestSound(t *testing.T) {
 	for _, d := range unsound() {
-		if Sound(d) {
+		if deci.Sound(d) {
 			t.Errorf("%v is sound", d)
 		}
 	}
 	for _, d := range []api.Dec{{}, {N: 10}, {N: -1, Scale: 6}, {N: api.MaxCoef, Scale: 6}, {N: -api.MaxCoef}} {
-		if !Sound(d) {
+		if !deci.Sound(d) {
 			t.Errorf("%v is not sound", d)
 		}
 	}
@@ -64,7 +65,7 @@ func TestSound(t *testing.T) {
 func TestUnsoundArguments(t *testing.T) {
 	good := api.Dec{N: 1}
 	for _, d := range unsound() {
-		for i, f := range []func(a, b api.Dec) (api.Dec, api.Errno){Add, Mul, Div} {
+		for i, f := range []func(a, b api.Dec) (api.Dec, api.Errno){deci.Add, deci.Mul, deci.Div} {
 			if r, e := f(d, good); r != (api.Dec{}) || e != api.ErrForm {
 				t.Errorf("%d, first %v: %v, %d", i, d, r, e)
 			}
@@ -72,26 +73,26 @@ func TestUnsoundArguments(t *testing.T) {
 				t.Errorf("%d, second %v: %v, %d", i, d, r, e)
 			}
 		}
-		if n, e := Compare(d, good); n != 0 || e != api.ErrForm {
+		if n, e := deci.Compare(d, good); n != 0 || e != api.ErrForm {
 			t.Errorf("Compare %v: %d, %d", d, n, e)
 		}
-		if n, e := Compare(good, d); n != 0 || e != api.ErrForm {
+		if n, e := deci.Compare(good, d); n != 0 || e != api.ErrForm {
 			t.Errorf("Compare %v: %d, %d", d, n, e)
 		}
-		if r, e := Neg(d); r != (api.Dec{}) || e != api.ErrForm {
+		if r, e := deci.Neg(d); r != (api.Dec{}) || e != api.ErrForm {
 			t.Errorf("Neg %v: %v, %d", d, r, e)
 		}
-		if s, e := Text(d); s != "" || e != api.ErrForm {
+		if s, e := deci.Text(d); s != "" || e != api.ErrForm {
 			t.Errorf("Text %v: %q, %d", d, s, e)
 		}
-		if n, exact, e := At(d, 0); n != 0 || exact || e != api.ErrForm {
+		if n, exact, e := deci.At(d, 0); n != 0 || exact || e != api.ErrForm {
 			t.Errorf("At %v: %d, %v, %d", d, n, exact, e)
 		}
-		if n, exact, e := At(d, -1); n != 0 || exact || e != api.ErrArg {
+		if n, exact, e := deci.At(d, -1); n != 0 || exact || e != api.ErrArg {
 			t.Errorf("At %v, -1: %d, %v, %d", d, n, exact, e)
 		}
 	}
-	if _, e := Div(api.Dec{N: 10, Scale: 1}, api.Dec{}); e != api.ErrForm {
+	if _, e := deci.Div(api.Dec{N: 10, Scale: 1}, api.Dec{}); e != api.ErrForm {
 		t.Errorf("an unsound number over 0: %d", e)
 	}
 }
@@ -104,12 +105,12 @@ func TestCompareAndNeg(t *testing.T) {
 		{"1.5", "1.50", 0}, {"-2", "1", -1}, {"0.000001", "0", 1}, {"-1.5", "-1.4", -1},
 		{"999999999999", "999999.999999", 1}, {"-999999999999", "999999999999", -1}, {"0.2", "0.15", 1},
 	} {
-		if n, e := Compare(dec(t, c.a), dec(t, c.b)); n != c.want || e != 0 {
+		if n, e := deci.Compare(dec(t, c.a), dec(t, c.b)); n != c.want || e != 0 {
 			t.Errorf("Compare(%s, %s): %d, %d", c.a, c.b, n, e)
 		}
 	}
 	for a, want := range map[string]string{"0": "0", "1.5": "-1.5", "-999999999999": "999999999999"} {
-		if d, e := Neg(dec(t, a)); d != dec(t, want) || e != 0 {
+		if d, e := deci.Neg(dec(t, a)); d != dec(t, want) || e != 0 {
 			t.Errorf("Neg(%s): %v, %d", a, d, e)
 		}
 	}
@@ -138,7 +139,7 @@ func TestArithmetic(t *testing.T) {
 		{'/', "999999999999", "0.000001", "", api.ErrRange}, {'/', "0", "7", "0", 0}, {'/', "999999999999", "999999999999", "1", 0},
 		{'/', "1", "0.000001", "1000000", 0}, {'/', "999999999999", "7", "142857142857", 0}, {'/', "999999999998", "7", "", api.ErrRange},
 	} {
-		f := map[byte]func(a, b api.Dec) (api.Dec, api.Errno){'+': Add, '*': Mul, '/': Div}[c.op]
+		f := map[byte]func(a, b api.Dec) (api.Dec, api.Errno){'+': deci.Add, '*': deci.Mul, '/': deci.Div}[c.op]
 		d, e := f(dec(t, c.a), dec(t, c.b))
 		if e != c.e {
 			t.Errorf("%s %c %s: %d", c.a, c.op, c.b, e)
@@ -153,9 +154,18 @@ func TestArithmetic(t *testing.T) {
 	}
 }
 
+// tenTo returns ten to the power of k.
+func tenTo(k int) int {
+	p := 1
+	for range k {
+		p *= 10
+	}
+	return p
+}
+
 // exact returns d as a fraction.
 func exact(d api.Dec) *big.Rat {
-	return new(big.Rat).SetFrac64(int64(d.N), int64(power(d.Scale)))
+	return new(big.Rat).SetFrac64(int64(d.N), int64(tenTo(d.Scale)))
 }
 
 // rounded returns r in units of the smallest scale, half to even.
@@ -174,13 +184,13 @@ func rounded(r *big.Rat) *big.Int {
 func TestAgainstFractions(t *testing.T) {
 	r := rand.New(rand.NewSource(1))
 	some := func() api.Dec {
-		limit := int64(power(1 + r.Intn(12)))
-		d, _ := Make(int(r.Int63n(2*limit-1)-limit+1), r.Intn(7))
+		limit := int64(tenTo(1 + r.Intn(12)))
+		d, _ := deci.Make(int(r.Int63n(2*limit-1)-limit+1), r.Intn(7))
 		return d
 	}
 	for range 20000 {
 		a, b := some(), some()
-		for i, f := range []func(a, b api.Dec) (api.Dec, api.Errno){Add, Mul, Div} {
+		for i, f := range []func(a, b api.Dec) (api.Dec, api.Errno){deci.Add, deci.Mul, deci.Div} {
 			if i == 2 && b.N == 0 {
 				continue
 			}
@@ -189,7 +199,7 @@ func TestAgainstFractions(t *testing.T) {
 			units := rounded(sum)
 			d, e := f(a, b)
 			if e == api.OK {
-				if !Sound(d) || new(big.Int).Div(new(big.Int).Mul(big.NewInt(int64(d.N)), big.NewInt(1000000)), big.NewInt(int64(power(d.Scale)))).Cmp(units) != 0 {
+				if !deci.Sound(d) || new(big.Int).Div(new(big.Int).Mul(big.NewInt(int64(d.N)), big.NewInt(1000000)), big.NewInt(int64(tenTo(d.Scale)))).Cmp(units) != 0 {
 					t.Fatalf("%d: %v, %v: %v", i, a, b, d)
 				}
 				continue
@@ -212,7 +222,7 @@ func TestText(t *testing.T) {
 		"999999999999": "999999999999", "-999999.999999": "-999999.999999", "10.05": "10.05", "0.0000010": "0.000001",
 		"5." + strings.Repeat("0", 1000): "5",
 	} {
-		if got, e := Text(dec(t, s)); got != want || e != 0 {
+		if got, e := deci.Text(dec(t, s)); got != want || e != 0 {
 			t.Errorf("%q: %q, %d", s, got, e)
 		}
 	}
@@ -227,7 +237,7 @@ func TestParseErrors(t *testing.T) {
 		"0.0000001": api.ErrRange, "1000000000000": api.ErrRange, "999999999999.5": api.ErrRange, "-1000000.000001": api.ErrRange,
 		strings.Repeat("9", 400): api.ErrRange, "0." + strings.Repeat("0", 400) + "1": api.ErrRange,
 	} {
-		if d, e := Parse(s); d != (api.Dec{}) || e != want {
+		if d, e := deci.Parse(s); d != (api.Dec{}) || e != want {
 			t.Errorf("Parse(%q): %v, %d", s, d, e)
 		}
 	}
@@ -245,7 +255,7 @@ func TestAt(t *testing.T) {
 		{"999999999999", 6, 999999999999000000, true, 0}, {"-999999999999", 6, -999999999999000000, true, 0},
 		{"1", -1, 0, false, api.ErrArg}, {"1", 7, 0, false, api.ErrArg},
 	} {
-		if n, exact, e := At(dec(t, c.s), c.scale); n != c.n || exact != c.exact || e != c.e {
+		if n, exact, e := deci.At(dec(t, c.s), c.scale); n != c.n || exact != c.exact || e != c.e {
 			t.Errorf("At(%s, %d): %d, %v, %d", c.s, c.scale, n, exact, e)
 		}
 	}

@@ -1,4 +1,4 @@
-package duty
+package duty_test
 
 import (
 	"slices"
@@ -6,6 +6,7 @@ import (
 	"testing"
 
 	"soffit/api"
+	"soffit/duty"
 	"soffit/model"
 	"soffit/shape"
 )
@@ -39,14 +40,14 @@ func TestAll(t *testing.T) {
 		{Kind: api.Fires, Decision: 2}, {Kind: api.Side, Decision: 2}, {Kind: api.Side, Decision: 2, Cell: 1}, {Kind: api.Side, Decision: 2, Cell: 3},
 		{Kind: api.Boundary, Decision: 2, Cell: 1, Value: day(730119)}, {Kind: api.Boundary, Decision: 2, Cell: 1, Value: day(730120)},
 	}
-	if got, e := All(load(t, mixed)); !slices.Equal(got, want) || e != api.OK {
+	if got, e := duty.All(load(t, mixed)); !slices.Equal(got, want) || e != api.OK {
 		t.Errorf("%v, %d", got, e)
 	}
-	if got, e := All(api.Model{}); got != nil || e != api.ErrForm {
+	if got, e := duty.All(api.Model{}); got != nil || e != api.ErrForm {
 		t.Errorf("an unsound model: %v, %d", got, e)
 	}
 	only := load(t, `<model><input name="x" type="number"/><decision name="e" type="bool"><need name="x"/><expression>x = 1</expression></decision></model>`)
-	if got, e := All(only); len(got) != 0 || e != api.OK {
+	if got, e := duty.All(only); len(got) != 0 || e != api.OK {
 		t.Errorf("no table: %v, %d", got, e)
 	}
 }
@@ -66,7 +67,7 @@ func values(t *testing.T, s string) []api.Value {
 
 func TestMet(t *testing.T) {
 	m := load(t, mixed)
-	all, _ := All(m)
+	all, _ := duty.All(m)
 	for in, want := range map[string]string{
 		// Which of the 14 duties are satisfied.
 		`1;"a";null;true`: "1..1..1.1.....", `1;"b";null;true`: ".1.1..1..1....", `9;"a";null;null`: "..1...........", `5;"a";@"2000-01-01";true`: "1......1..1.1.", `0;"a";@"2000-01-02";true`: "..1..1.......1", `null;null;@"1999-12-31";true`: ".....1...1....",
@@ -74,7 +75,7 @@ func TestMet(t *testing.T) {
 	} {
 		var got strings.Builder
 		for _, d := range all {
-			ok, e := Met(m, d, values(t, in)...)
+			ok, e := duty.Met(m, d, values(t, in)...)
 			if e != api.OK {
 				t.Fatalf("%s, %v: %d", in, d, e)
 			}
@@ -102,7 +103,7 @@ func TestWrongArguments(t *testing.T) {
 		{api.Model{}, api.Duty{}, nil, api.ErrForm}, {m, api.Duty{}, good[:2], api.ErrArg}, {m, api.Duty{}, values(t, `99;"a";null;true`), api.ErrRange}, {m, api.Duty{}, good, api.ErrArg}, {m, api.Duty{Kind: api.Fires}, good, api.ErrArg}, {m, api.Duty{Kind: api.Fires, Decision: 1, Rule: 2}, good, api.ErrArg}, {m, api.Duty{Kind: api.Fires, Decision: 1, Cell: 1}, good, api.ErrArg}, {m, api.Duty{Kind: api.Fires, Decision: -1}, good, api.ErrArg}, {m, api.Duty{Kind: api.Side, Decision: 1, Cell: 2}, good, api.ErrArg}, {m, api.Duty{Kind: api.Boundary, Decision: 1, Cell: 1, Value: num(2, 0)}, good, api.ErrArg}, {m, api.Duty{Kind: api.Boundary, Decision: 1, Cell: 1, Rule: 1, Value: num(1, 0)}, good, api.ErrArg}, {m, api.Duty{Kind: 4, Decision: 1}, good, api.ErrArg}, {m, api.Duty{Kind: api.Fires, Decision: 99}, good, api.ErrArg},
 		{m, api.Duty{Kind: 9}, values(t, `99;"a";null;true`), api.ErrRange},
 	} {
-		if ok, e := Met(c.m, c.d, c.in...); ok || e != c.e {
+		if ok, e := duty.Met(c.m, c.d, c.in...); ok || e != c.e {
 			t.Errorf("%d: %v, %d", i, ok, e)
 		}
 	}

@@ -1,4 +1,4 @@
-package expr
+package expr_test
 
 import (
 	"math/rand"
@@ -8,6 +8,7 @@ import (
 	"testing"
 
 	"soffit/api"
+	"soffit/expr"
 )
 
 func num(n int) api.Expr {
@@ -20,7 +21,7 @@ func neg(x api.Expr) api.Expr              { return of(api.OpNeg, x) }
 func parens(n int, s string) string        { return strings.Repeat("(", n) + s + strings.Repeat(")", n) }
 func check(t *testing.T, s string, x api.Expr) {
 	t.Helper()
-	if got, at, e := Parse(s); !reflect.DeepEqual(got, x) || at != 0 || e != api.OK {
+	if got, at, e := expr.Parse(s); !reflect.DeepEqual(got, x) || at != 0 || e != api.OK {
 		t.Errorf("%s: %v, %d, %d", s, got, at, e)
 	}
 }
@@ -83,19 +84,19 @@ func TestWrongTexts(t *testing.T) {
 		{strings.Repeat("-", 64) + "a", 0, api.ErrDeep}, {"a" + strings.Repeat("+a", 64), 0, api.ErrDeep}, {strings.Repeat("if a then a else ", 64) + "a", 0, api.ErrDeep}, {"a" + strings.Repeat("+a", 64) + ")", 129, api.ErrText},
 		{strings.Repeat("if ", 20000), 60000, api.ErrText}, {strings.Repeat("-", api.MaxText), api.MaxText, api.ErrText},
 	} {
-		if got, at, e := Parse(c.s); !reflect.DeepEqual(got, api.Expr{}) || at != c.at || e != c.e {
+		if got, at, e := expr.Parse(c.s); !reflect.DeepEqual(got, api.Expr{}) || at != c.at || e != c.e {
 			t.Errorf("%.30q: %v, %d, %d, want %d, %d", c.s, got.Op, at, e, c.at, c.e)
 		}
 	}
 	check(t, "a"+strings.Repeat("+a", 63), sum(64))
-	if x, _, e := Parse(wide(2048)); e != api.OK || !Sound(x) {
+	if x, _, e := expr.Parse(wide(2048)); e != api.OK || !expr.Sound(x) {
 		t.Errorf("4095 parts: %d", e)
 	}
-	if _, _, e := Parse("-(" + wide(2048) + ")"); e != api.OK {
+	if _, _, e := expr.Parse("-(" + wide(2048) + ")"); e != api.OK {
 		t.Errorf("4096 parts: %d", e)
 	}
 	for _, s := range []string{"-(-(" + wide(2048) + "))", wide(2049), "a" + strings.Repeat("+a", 4096), "not(" + wide(3000) + ")"} {
-		if x, _, e := Parse(s); !reflect.DeepEqual(x, api.Expr{}) || e != api.ErrLarge {
+		if x, _, e := expr.Parse(s); !reflect.DeepEqual(x, api.Expr{}) || e != api.ErrLarge {
 			t.Errorf("%.20s: %d", s, e)
 		}
 	}
@@ -115,21 +116,21 @@ func TestText(t *testing.T) {
 		"if a then b else c": "if a then b else c", "if a=b then -c else if a then b else c": "if (a = b) then (-c) else (if a then b else c)", "(if a then b else c)+1": "(if a then b else c) + 1",
 		"a or b and c": "a or (b and c)", "1<=2": "1 <= 2", "a!=b": "a != b", `@"2000-01-01">"x\""`: `@"2000-01-01" > "x\""`, "0.50-null": "0.5 - null", "true/false": "true / false", "a>=b": "a >= b", "a<b": "a < b",
 	} {
-		x, _, e := Parse(s)
-		if got, f := Text(x); got != want || e != api.OK || f != api.OK {
+		x, _, e := expr.Parse(s)
+		if got, f := expr.Text(x); got != want || e != api.OK || f != api.OK {
 			t.Errorf("%s: %s, %d, %d", s, got, e, f)
 		}
 	}
 	for _, x := range unsound() {
-		if s, e := Text(x); s != "" || e != api.ErrForm {
+		if s, e := expr.Text(x); s != "" || e != api.ErrForm {
 			t.Errorf("%v: %q, %d", x.Op, s, e)
 		}
 	}
 	long := val(api.Value{Kind: api.Text, Text: strings.Repeat("a", 256)})
-	if s, e := Text(tower(8, long)); s != "" || e != api.ErrLarge {
+	if s, e := expr.Text(tower(8, long)); s != "" || e != api.ErrLarge {
 		t.Errorf("too long: %d", e)
 	}
-	if s, e := Text(tower(7, long)); e != api.OK || len(s) != 128*258+127*3+126*2 {
+	if s, e := expr.Text(tower(7, long)); e != api.OK || len(s) != 128*258+127*3+126*2 {
 		t.Errorf("long: %d, %d", len(s), e)
 	}
 }
@@ -158,44 +159,44 @@ func unsound() []api.Expr {
 
 func TestSound(t *testing.T) {
 	for i, x := range unsound() {
-		if Sound(x) {
+		if expr.Sound(x) {
 			t.Errorf("%d is sound", i)
 		}
-		if got := Names(x); len(got) != 0 {
+		if got := expr.Names(x); len(got) != 0 {
 			t.Errorf("%d has names %v", i, got)
 		}
 	}
 	for i, x := range []api.Expr{num(0), val(api.Value{}), name("a"), negs(63, num(1)), tower(11, name("a")), neg(tower(11, name("a"))), of(api.OpIf, num(1), num(2), num(3))} {
-		if !Sound(x) {
+		if !expr.Sound(x) {
 			t.Errorf("%d is not sound", i)
 		}
 	}
 }
 
 func TestNames(t *testing.T) {
-	x, _, _ := Parse("if b then a + b else not(c) and Z")
-	if got := Names(x); !slices.Equal(got, []string{"Z", "a", "b", "c"}) {
+	x, _, _ := expr.Parse("if b then a + b else not(c) and Z")
+	if got := expr.Names(x); !slices.Equal(got, []string{"Z", "a", "b", "c"}) {
 		t.Errorf("%v", got)
 	}
-	if got := Names(num(1)); len(got) != 0 {
+	if got := expr.Names(num(1)); len(got) != 0 {
 		t.Errorf("%v", got)
 	}
 }
 
 func TestSame(t *testing.T) {
 	a := of(api.OpAdd, name("a"), num(1))
-	if !Same(a, of(api.OpAdd, api.Expr{Op: api.OpName, Name: "a", Kids: []api.Expr{}}, num(1))) || !Same(api.Expr{}, api.Expr{Kids: []api.Expr{}}) {
+	if !expr.Same(a, of(api.OpAdd, api.Expr{Op: api.OpName, Name: "a", Kids: []api.Expr{}}, num(1))) || !expr.Same(api.Expr{}, api.Expr{Kids: []api.Expr{}}) {
 		t.Error("equal expressions are not the same")
 	}
 	for _, b := range []api.Expr{{}, of(api.OpSub, name("a"), num(1)), of(api.OpAdd, name("b"), num(1)), of(api.OpAdd, name("a"), num(2)), of(api.OpAdd, num(1), name("a")), of(api.OpAdd, name("a")), {Op: api.OpAdd, Name: "x", Kids: a.Kids}, {Op: api.OpAdd, Value: api.Value{N: 1}, Kids: a.Kids}} {
-		if Same(a, b) || Same(b, a) {
+		if expr.Same(a, b) || expr.Same(b, a) {
 			t.Errorf("%v is the same", b)
 		}
 	}
 	list := unsound()
 	for i, x := range list {
 		for j, y := range list {
-			if Same(x, y) != (i == j) {
+			if expr.Same(x, y) != (i == j) {
 				t.Errorf("%d and %d", i, j)
 			}
 		}
@@ -215,7 +216,14 @@ func some(r *rand.Rand, depth int) api.Expr {
 		return val([]api.Value{{}, {Kind: api.Number, Dec: api.Dec{N: 25, Scale: 1}}, {Kind: api.Text, Text: `"\ or`}, {Kind: api.Bool, N: 1}, {Kind: api.Date, N: 9}}[r.Intn(5)])
 	}
 	x := api.Expr{Op: op}
-	for range kidsOf(op) {
+	count := 2
+	switch op {
+	case api.OpNeg, api.OpNot:
+		count = 1
+	case api.OpIf:
+		count = 3
+	}
+	for range count {
 		x.Kids = append(x.Kids, some(r, depth-1))
 	}
 	return x
@@ -225,12 +233,12 @@ func TestThereAndBack(t *testing.T) {
 	r := rand.New(rand.NewSource(2))
 	for range 3000 {
 		x := some(r, 1+r.Intn(6))
-		s, e := Text(x)
-		if e == api.ErrLarge || !Sound(x) {
+		s, e := expr.Text(x)
+		if e == api.ErrLarge || !expr.Sound(x) {
 			continue
 		}
-		back, _, f := Parse(s)
-		if !Same(x, back) || e != api.OK || f != api.OK {
+		back, _, f := expr.Parse(s)
+		if !expr.Same(x, back) || e != api.OK || f != api.OK {
 			t.Fatalf("%s: %v, %d, %d", s, back, e, f)
 		}
 	}

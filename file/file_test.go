@@ -1,4 +1,4 @@
-package file
+package file_test
 
 import (
 	"reflect"
@@ -6,6 +6,7 @@ import (
 	"testing"
 
 	"soffit/api"
+	"soffit/file"
 	"soffit/model"
 	"soffit/sample"
 	"soffit/suite"
@@ -39,10 +40,10 @@ const written = `<tests><case><in name="x">-1.5</in><in name="t">&quot;a\&quot;&
 
 func TestWrite(t *testing.T) {
 	m := load(t, text)
-	if s, e := Write(m, cases()...); s != written || e != api.OK {
+	if s, e := file.Write(m, cases()...); s != written || e != api.OK {
 		t.Errorf("%s, %d", s, e)
 	}
-	if s, e := Write(m); s != "<tests/>" || e != api.OK {
+	if s, e := file.Write(m); s != "<tests/>" || e != api.OK {
 		t.Errorf("none: %s, %d", s, e)
 	}
 	for i, spoil := range []func(c *api.Case){
@@ -50,11 +51,11 @@ func TestWrite(t *testing.T) {
 	} {
 		list := cases()
 		spoil(&list[1])
-		if s, e := Write(m, list...); s != "" || e != api.ErrForm {
+		if s, e := file.Write(m, list...); s != "" || e != api.ErrForm {
 			t.Errorf("%d: %s, %d", i, s, e)
 		}
 	}
-	if s, e := Write(api.Model{}); s != "" || e != api.ErrForm {
+	if s, e := file.Write(api.Model{}); s != "" || e != api.ErrForm {
 		t.Errorf("an unsound model: %s, %d", s, e)
 	}
 }
@@ -63,29 +64,29 @@ func TestLargeFiles(t *testing.T) {
 	m := load(t, text)
 	one := cases()[1]
 	var list []api.Case
-	empty, _ := Write(m, one)
+	empty, _ := file.Write(m, one)
 	size := len(empty) - len("<tests></tests>")
 	for range (api.MaxText - len("<tests></tests>")) / size {
 		list = append(list, one)
 	}
-	s, e := Write(m, list...)
+	s, e := file.Write(m, list...)
 	if len(s) != len("<tests></tests>")+size*len(list) || e != api.OK {
 		t.Errorf("%d cases: %d, %d", len(list), len(s), e)
 	}
-	if back, _, e := Read(m, s); len(back) != len(list) || e != api.OK {
+	if back, _, e := file.Read(m, s); len(back) != len(list) || e != api.OK {
 		t.Errorf("back: %d, %d", len(back), e)
 	}
-	if s, e := Write(m, append(list, one)...); s != "" || e != api.ErrLarge {
+	if s, e := file.Write(m, append(list, one)...); s != "" || e != api.ErrLarge {
 		t.Errorf("one more: %d, %d", len(s), e)
 	}
 	for range 4 {
 		list = append(list, list...)
 	}
-	if s, e := Write(m, list...); s != "" || e != api.ErrLarge {
+	if s, e := file.Write(m, list...); s != "" || e != api.ErrLarge {
 		t.Errorf("%d cases: %d, %d", len(list), len(s), e)
 	}
 	list[len(list)-1].Expected = nil
-	if s, e := Write(m, list...); s != "" || e != api.ErrForm {
+	if s, e := file.Write(m, list...); s != "" || e != api.ErrForm {
 		t.Errorf("many cases, one of them wrong: %d, %d", len(s), e)
 	}
 }
@@ -94,16 +95,16 @@ func TestRead(t *testing.T) {
 	m := load(t, text)
 	spaced := strings.ReplaceAll(strings.ReplaceAll(written, "><", ">\n <!-- c --><"), "null<", " null\n<")
 	for _, s := range []string{written, spaced} {
-		if got, at, e := Read(m, s); !reflect.DeepEqual(got, cases()) || at != 0 || e != api.OK {
+		if got, at, e := file.Read(m, s); !reflect.DeepEqual(got, cases()) || at != 0 || e != api.OK {
 			t.Errorf("%s: %v, %d, %d", s, got, at, e)
 		}
 	}
 	for _, s := range []string{"<tests/>", "<tests> </tests>"} {
-		if got, at, e := Read(m, s); len(got) != 0 || at != 0 || e != api.OK {
+		if got, at, e := file.Read(m, s); len(got) != 0 || at != 0 || e != api.OK {
 			t.Errorf("%s: %v, %d, %d", s, got, at, e)
 		}
 	}
-	if got, at, e := Read(api.Model{}, "<"); got != nil || at != 0 || e != api.ErrForm {
+	if got, at, e := file.Read(api.Model{}, "<"); got != nil || at != 0 || e != api.ErrForm {
 		t.Errorf("an unsound model: %v, %d, %d", got, at, e)
 	}
 }
@@ -127,16 +128,16 @@ func TestWrongTexts(t *testing.T) {
 		if s == written || at < 0 {
 			t.Fatalf("%d: the test is wrong", i)
 		}
-		if got, place, e := Read(m, s); got != nil || place != at || e != c.e {
+		if got, place, e := file.Read(m, s); got != nil || place != at || e != c.e {
 			t.Errorf("%d, %s: %v, %d, %d, want %d, %d", i, c.new, got, place, e, at, c.e)
 		}
 	}
 	for s, at := range map[string]int{" <case/>": 1, "<tests><case> x </case></tests>": 7, "<tests>x</tests>": 0, "<tests><case/></tests>": 7} {
-		if got, place, e := Read(m, s); got != nil || place != at || e != api.ErrShape {
+		if got, place, e := file.Read(m, s); got != nil || place != at || e != api.ErrShape {
 			t.Errorf("%s: %v, %d, %d", s, got, place, e)
 		}
 	}
-	if _, at, e := Read(m, ""); at != 0 || e != api.ErrTag {
+	if _, at, e := file.Read(m, ""); at != 0 || e != api.ErrTag {
 		t.Errorf("no text: %d, %d", at, e)
 	}
 }
@@ -146,8 +147,8 @@ func TestSuitesThereAndBack(t *testing.T) {
 	for number := range 40 {
 		m := sample.Model(4000+number, size)
 		tests, _, _ := suite.Build(m, api.Unlimited)
-		s, e := Write(m, tests...)
-		back, at, f := Read(m, s)
+		s, e := file.Write(m, tests...)
+		back, at, f := file.Read(m, s)
 		if e != api.OK || f != api.OK || at != 0 || len(back) != len(tests) || len(tests) > 0 && !reflect.DeepEqual(back, tests) {
 			t.Fatalf("%d: %d, %d, %d: %v", number, e, f, at, back)
 		}

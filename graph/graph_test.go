@@ -1,4 +1,4 @@
-package graph
+package graph_test
 
 import (
 	"math"
@@ -8,6 +8,7 @@ import (
 	"testing"
 
 	"soffit/api"
+	"soffit/graph"
 )
 
 // parts returns names and needs from a text as "a:b,c d:".
@@ -27,7 +28,7 @@ func TestOrder(t *testing.T) {
 		"": nil, "a:": {0}, "a: b: c:": {0, 1, 2}, "a:b b:c c:": {2, 1, 0}, "a:c b: c: d:a": {1, 2, 0, 3}, "a:d b: c: d:": {1, 2, 3, 0}, "a:b,b,b b:": {1, 0}, "d:a,b a: b:a c:d": {1, 2, 0, 3}, "x:y y: z:x,y": {1, 0, 2},
 	} {
 		names, needs := parts(s)
-		if got, at, e := Order(names, needs); !slices.Equal(got, want) || at != 0 || e != api.OK {
+		if got, at, e := graph.Order(names, needs); !slices.Equal(got, want) || at != 0 || e != api.OK {
 			t.Errorf("%s: %v, %d, %d", s, got, at, e)
 		}
 	}
@@ -39,7 +40,7 @@ func TestOrder(t *testing.T) {
 		{"a: b: a:", 2, api.ErrName}, {"a:zz b: b: a:", 2, api.ErrName}, {"a: b:zz c:yy", 1, api.ErrRef}, {"a:a b:zz", 1, api.ErrRef}, {"a:a", 0, api.ErrCycle}, {"a: b:c c:b", 1, api.ErrCycle}, {"a:c b:b c:", 1, api.ErrCycle}, {"a: b:d c:a d:e e:d", 1, api.ErrCycle}, {"a:b b:c c:b d:", 0, api.ErrCycle},
 	} {
 		names, needs := parts(c.s)
-		if got, at, e := Order(names, needs); got != nil || at != c.at || e != c.e {
+		if got, at, e := graph.Order(names, needs); got != nil || at != c.at || e != c.e {
 			t.Errorf("%s: %v, %d, %d", c.s, got, at, e)
 		}
 	}
@@ -55,17 +56,17 @@ func TestCounts(t *testing.T) {
 		}
 	}
 	last := api.MaxNodes
-	if got, _, e := Order(names[:last], needs[:last]); e != api.OK || len(got) != last || got[0] != last-1 || got[last-1] != 0 {
+	if got, _, e := graph.Order(names[:last], needs[:last]); e != api.OK || len(got) != last || got[0] != last-1 || got[last-1] != 0 {
 		t.Errorf("the most items: %d, %d", len(got), e)
 	}
 	for _, c := range []struct {
 		names []string
 		needs [][]string
 	}{{names, needs}, {names[:2], needs[:1]}, {names[:1], needs[:2]}, {[]string{"a", "a"}, nil}, {nil, make([][]string, 1)}} {
-		if got, at, e := Order(c.names, c.needs); got != nil || at != 0 || e != api.ErrArg {
+		if got, at, e := graph.Order(c.names, c.needs); got != nil || at != 0 || e != api.ErrArg {
 			t.Errorf("Order: %v, %d, %d", got, at, e)
 		}
-		if got, e := Above(c.names, c.needs, 0); got != nil || e != api.ErrArg {
+		if got, e := graph.Above(c.names, c.needs, 0); got != nil || e != api.ErrArg {
 			t.Errorf("Above: %v, %d", got, e)
 		}
 	}
@@ -82,7 +83,7 @@ func TestAbove(t *testing.T) {
 		{"a:b b:", -1, nil, api.ErrArg}, {"a:b b:", 2, nil, api.ErrArg}, {"a:b b:", math.MaxInt, nil, api.ErrArg}, {"", 0, nil, api.ErrArg}, {"a: a:", 0, nil, api.ErrName}, {"a: b:z", 0, nil, api.ErrRef}, {"a: a:", 7, nil, api.ErrName}, {"a: b:z", -1, nil, api.ErrRef},
 	} {
 		names, needs := parts(c.s)
-		if got, e := Above(names, needs, c.n); !slices.Equal(got, c.want) || e != c.e {
+		if got, e := graph.Above(names, needs, c.n); !slices.Equal(got, c.want) || e != c.e {
 			t.Errorf("%s, %d: %v, %d", c.s, c.n, got, e)
 		}
 	}

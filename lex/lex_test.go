@@ -1,4 +1,4 @@
-package lex
+package lex_test
 
 import (
 	"math"
@@ -7,6 +7,7 @@ import (
 	"testing"
 
 	"soffit/api"
+	"soffit/lex"
 )
 
 func sig(at int, s string) api.Token { return api.Token{Kind: api.TSign, At: at, Text: s} }
@@ -32,7 +33,7 @@ func TestTokens(t *testing.T) {
 		{"--1", []api.Token{sig(0, "-"), sig(1, "-"), num(2, 1, 0)}}, {"0 0", []api.Token{num(0, 0, 0), num(2, 0, 0)}},
 		{strings.Repeat("a", 32), []api.Token{nam(0, strings.Repeat("a", 32))}}, {`"` + strings.Repeat(`\"`, 256) + `"`, []api.Token{str(0, strings.Repeat(`"`, 256))}},
 	} {
-		if got, at, e := Tokens(c.s); !slices.Equal(got, c.want) || at != 0 || e != api.OK {
+		if got, at, e := lex.Tokens(c.s); !slices.Equal(got, c.want) || at != 0 || e != api.OK {
 			t.Errorf("%q: %v, %d, %d", c.s, got, at, e)
 		}
 	}
@@ -51,11 +52,11 @@ func TestWrongTokens(t *testing.T) {
 		{"a " + strings.Repeat("b", 33), 2, api.ErrText}, {"{", 0, api.ErrText}, {"'a'", 0, api.ErrText}, {".", 0, api.ErrText},
 		{strings.Repeat(" ", api.MaxText+1), 0, api.ErrLarge}, {strings.Repeat("$", api.MaxText+1), 0, api.ErrLarge},
 	} {
-		if got, at, e := Tokens(c.s); got != nil || at != c.at || e != c.e {
+		if got, at, e := lex.Tokens(c.s); got != nil || at != c.at || e != c.e {
 			t.Errorf("%.40q: %v, %d, %d, want %d, %d", c.s, got, at, e, c.at, c.e)
 		}
 	}
-	if _, _, e := Tokens(strings.Repeat(" ", api.MaxText)); e != api.OK {
+	if _, _, e := lex.Tokens(strings.Repeat(" ", api.MaxText)); e != api.OK {
 		t.Errorf("the greatest text: %d", e)
 	}
 }
@@ -65,7 +66,7 @@ func TestWord(t *testing.T) {
 		"a": true, "If": true, "nulls": true, "_": true, "": false, "1a": false, "a-b": false, strings.Repeat("a", 33): false, "é": false,
 		"null": false, "true": false, "false": false, "and": false, "or": false, "not": false, "if": false, "then": false, "else": false,
 	} {
-		if Word(s) != want {
+		if lex.Word(s) != want {
 			t.Errorf("Word(%q) is not %v", s, want)
 		}
 	}
@@ -74,14 +75,14 @@ func TestWord(t *testing.T) {
 func TestJoin(t *testing.T) {
 	list := []api.Token{num(99, 15, 1), str(-1, `a"\`), {Kind: api.TDate, N: 0}, nam(0, "if"), sig(0, ".."), sig(0, "]"), num(0, 0, 0)}
 	want := `1.5 "a\"\\" @"0001-01-01" if .. ] 0`
-	if s, e := Join(list...); s != want || e != api.OK {
+	if s, e := lex.Join(list...); s != want || e != api.OK {
 		t.Errorf("%q, %d", s, e)
 	}
-	if s, e := Join(); s != "" || e != api.OK {
+	if s, e := lex.Join(); s != "" || e != api.OK {
 		t.Errorf("none: %q, %d", s, e)
 	}
-	back, _, e := Tokens(want)
-	if s, f := Join(back...); s != want || e != api.OK || f != api.OK {
+	back, _, e := lex.Tokens(want)
+	if s, f := lex.Join(back...); s != want || e != api.OK || f != api.OK {
 		t.Errorf("back: %q, %d, %d", s, e, f)
 	}
 	fill := make([]api.Token, 254)
@@ -89,14 +90,14 @@ func TestJoin(t *testing.T) {
 		fill[i] = str(0, strings.Repeat("a", 254))
 	}
 	fill = append(fill, str(0, strings.Repeat("a", 256)))
-	if s, e := Join(fill...); len(s) != api.MaxText || e != api.OK {
+	if s, e := lex.Join(fill...); len(s) != api.MaxText || e != api.OK {
 		t.Errorf("the greatest text: %d, %d", len(s), e)
 	}
 	fill[0].Text += "a"
-	if s, e := Join(fill...); s != "" || e != api.ErrLarge {
+	if s, e := lex.Join(fill...); s != "" || e != api.ErrLarge {
 		t.Errorf("one byte too many: %d, %d", len(s), e)
 	}
-	if s, e := Join(append(fill, sig(0, "!"))...); s != "" || e != api.ErrForm {
+	if s, e := lex.Join(append(fill, sig(0, "!"))...); s != "" || e != api.ErrForm {
 		t.Errorf("too many bytes and an invalid token: %d, %d", len(s), e)
 	}
 }
@@ -109,7 +110,7 @@ func TestWrongJoin(t *testing.T) {
 		nam(0, ""), nam(0, "1a"), nam(0, strings.Repeat("a", 33)), {Kind: api.TName, Text: "a", N: 1}, {Kind: api.TName, Text: "a", Dec: api.Dec{Scale: 1}},
 		sig(0, ""), sig(0, "!"), sig(0, "."), sig(0, "=="), sig(0, "((((("), sig(0, "a"), sig(0, "+-"), {Kind: api.TSign, Text: "+", N: 1}, {Kind: api.TSign, Text: "+", Dec: api.Dec{N: 1}},
 	} {
-		if s, e := Join(num(0, 1, 0), w); s != "" || e != api.ErrForm {
+		if s, e := lex.Join(num(0, 1, 0), w); s != "" || e != api.ErrForm {
 			t.Errorf("%v: %q, %d", w, s, e)
 		}
 	}

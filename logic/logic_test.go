@@ -1,9 +1,10 @@
-package logic
+package logic_test
 
 import (
 	"testing"
 
 	"soffit/api"
+	"soffit/logic"
 )
 
 func yes() api.Value { return api.Value{Kind: api.Bool, N: 1} }
@@ -18,26 +19,26 @@ func unknown() []api.Value {
 }
 
 func TestTruth(t *testing.T) {
-	if Truth(true) != yes() || Truth(false) != no() {
+	if logic.Truth(true) != yes() || logic.Truth(false) != no() {
 		t.Error("Truth")
 	}
-	if !Is(yes()) || Is(no()) {
+	if !logic.Is(yes()) || logic.Is(no()) {
 		t.Error("Is")
 	}
 	for _, u := range unknown() {
-		if Is(u) {
+		if logic.Is(u) {
 			t.Errorf("%v is true", u)
 		}
 	}
 }
 
 func TestNot(t *testing.T) {
-	if Not(yes()) != no() || Not(no()) != yes() {
+	if logic.Not(yes()) != no() || logic.Not(no()) != yes() {
 		t.Error("Not")
 	}
 	for _, u := range unknown() {
-		if Not(u) != (api.Value{}) {
-			t.Errorf("Not(%v): %v", u, Not(u))
+		if logic.Not(u) != (api.Value{}) {
+			t.Errorf("Not(%v): %v", u, logic.Not(u))
 		}
 	}
 }
@@ -51,8 +52,8 @@ func TestAndOr(t *testing.T) {
 		{nil, yes(), no()}, {[]api.Value{yes()}, yes(), yes()}, {[]api.Value{no()}, no(), no()},
 		{[]api.Value{yes(), yes(), yes()}, yes(), yes()}, {[]api.Value{yes(), no()}, no(), yes()}, {[]api.Value{no(), no()}, no(), no()},
 	} {
-		if And(c.list...) != c.and || Or(c.list...) != c.or {
-			t.Errorf("%v: %v, %v", c.list, And(c.list...), Or(c.list...))
+		if logic.And(c.list...) != c.and || logic.Or(c.list...) != c.or {
+			t.Errorf("%v: %v, %v", c.list, logic.And(c.list...), logic.Or(c.list...))
 		}
 	}
 	for _, u := range unknown() {
@@ -63,8 +64,8 @@ func TestAndOr(t *testing.T) {
 			{[]api.Value{u}, null, null}, {[]api.Value{u, yes()}, null, yes()}, {[]api.Value{yes(), u}, null, yes()}, {[]api.Value{u, no()}, no(), null},
 			{[]api.Value{no(), u}, no(), null}, {[]api.Value{u, yes(), no()}, no(), yes()}, {[]api.Value{u, u}, null, null},
 		} {
-			if And(c.list...) != c.and || Or(c.list...) != c.or {
-				t.Errorf("%v: %v, %v", c.list, And(c.list...), Or(c.list...))
+			if logic.And(c.list...) != c.and || logic.Or(c.list...) != c.or {
+				t.Errorf("%v: %v, %v", c.list, logic.And(c.list...), logic.Or(c.list...))
 			}
 		}
 	}

@@ -1,4 +1,4 @@
-package mark
+package mark_test
 
 import (
 	"reflect"
@@ -6,6 +6,7 @@ import (
 	"testing"
 
 	"soffit/api"
+	"soffit/mark"
 )
 
 func TestMarks(t *testing.T) {
@@ -30,7 +31,7 @@ func TestMarks(t *testing.T) {
 		{"</a></b>", []api.Mark{{Kind: api.Close, Name: "a"}, {Kind: api.Close, At: 4, Name: "b"}}},
 		{`<a b="1"/>`, []api.Mark{{Kind: api.Empty, Name: "a", Attrs: []api.Attr{{Name: "b", Value: "1"}}}}},
 	} {
-		got, at, e := Marks(c.s)
+		got, at, e := mark.Marks(c.s)
 		if !(len(got) == 0 && len(c.want) == 0) && !reflect.DeepEqual(got, c.want) || at != 0 || e != api.OK {
 			t.Errorf("%q: %v, %d, %d", c.s, got, at, e)
 		}
@@ -60,11 +61,11 @@ func TestWrongMarks(t *testing.T) {
 		{"<a>&<b", 3, api.ErrName}, {"<a\x02>", 0, api.ErrTag}, {"<a\x00b=\"\">", 0, api.ErrTag},
 		{strings.Repeat("a", api.MaxText+1), 0, api.ErrLarge}, {"<" + strings.Repeat("a", api.MaxText), 0, api.ErrLarge},
 	} {
-		if got, at, e := Marks(c.s); got != nil || at != c.at || e != c.e {
+		if got, at, e := mark.Marks(c.s); got != nil || at != c.at || e != c.e {
 			t.Errorf("%.40q: %v, %d, %d, want %d, %d", c.s, got, at, e, c.at, c.e)
 		}
 	}
-	if got, _, e := Marks(strings.Repeat("a", api.MaxText)); len(got) != 1 || e != api.OK {
+	if got, _, e := mark.Marks(strings.Repeat("a", api.MaxText)); len(got) != 1 || e != api.OK {
 		t.Errorf("the greatest text: %d", e)
 	}
 }
@@ -75,14 +76,14 @@ func TestText(t *testing.T) {
 		{Kind: api.Empty, At: -5, Name: "b_1"}, {Kind: api.Empty, Name: "c", Attrs: []api.Attr{{Name: "x", Value: "1"}}}, {Kind: api.Close, Name: "zz"}, {Kind: api.Chars},
 	}
 	want := `a&lt;&quot;é&#10;<a b="&apos;&amp;&#9;" c=""><b_1/><c x="1"/></zz>`
-	if s, e := Text(list...); s != want || e != api.OK {
+	if s, e := mark.Text(list...); s != want || e != api.OK {
 		t.Errorf("%q, %d", s, e)
 	}
-	if s, e := Text(); s != "" || e != api.OK {
+	if s, e := mark.Text(); s != "" || e != api.OK {
 		t.Errorf("none: %q, %d", s, e)
 	}
-	back, _, e := Marks(want)
-	if s, f := Text(back...); s != want || e != api.OK || f != api.OK {
+	back, _, e := mark.Marks(want)
+	if s, f := mark.Text(back...); s != want || e != api.OK || f != api.OK {
 		t.Errorf("back: %q, %d, %d", s, e, f)
 	}
 }
@@ -96,21 +97,21 @@ func TestWrongText(t *testing.T) {
 		{Kind: api.Empty, Name: "é"}, {Kind: api.Empty, Name: "a", Text: " "}, {Kind: api.Close}, {Kind: api.Close, Name: "a", Attrs: []api.Attr{{Name: "b"}}}, {Kind: api.Close, Name: "a", Text: "a"},
 	} {
 		big := api.Mark{Kind: api.Chars, Text: strings.Repeat("a", api.MaxText+1)}
-		if s, e := Text(big, m); s != "" || e != api.ErrForm {
+		if s, e := mark.Text(big, m); s != "" || e != api.ErrForm {
 			t.Errorf("%v: %q, %d", m, s, e)
 		}
 	}
 	half := api.Mark{Kind: api.Chars, Text: strings.Repeat("a", api.MaxText/2)}
-	if s, e := Text(half, half); len(s) != api.MaxText || e != api.OK {
+	if s, e := mark.Text(half, half); len(s) != api.MaxText || e != api.OK {
 		t.Errorf("the greatest text: %d", e)
 	}
-	if s, e := Text(half, half, api.Mark{Kind: api.Chars, Text: "a"}); s != "" || e != api.ErrLarge {
+	if s, e := mark.Text(half, half, api.Mark{Kind: api.Chars, Text: "a"}); s != "" || e != api.ErrLarge {
 		t.Errorf("one byte too many: %d", e)
 	}
-	if s, e := Text(api.Mark{Kind: api.Chars, Text: strings.Repeat("<", api.MaxText/4+1)}); s != "" || e != api.ErrLarge {
+	if s, e := mark.Text(api.Mark{Kind: api.Chars, Text: strings.Repeat("<", api.MaxText/4+1)}); s != "" || e != api.ErrLarge {
 		t.Errorf("too long when escaped: %d", e)
 	}
-	if s, e := Text(half, half, api.Mark{Kind: api.Chars}); len(s) != api.MaxText || e != api.OK {
+	if s, e := mark.Text(half, half, api.Mark{Kind: api.Chars}); len(s) != api.MaxText || e != api.OK {
 		t.Errorf("the greatest text and nothing: %d", e)
 	}
 }

@@ -1,9 +1,10 @@
-package match
+package match_test
 
 import (
 	"testing"
 
 	"soffit/api"
+	"soffit/match"
 	"soffit/unary"
 )
 
@@ -35,13 +36,13 @@ func TestOneAndAll(t *testing.T) {
 		{"-", null, true}, {"-", num(1), true}, {"-", txt("x"), true}, {"1, 3", num(3), true}, {"1, 3", num(2), false}, {`1, "a", null`, null, true}, {"not(1, 3)", num(3), false}, {"not(1, 3)", num(2), true}, {"not(1)", null, true}, {"not(1)", txt("a"), true}, {"not(null)", null, false}, {"not(null)", num(1), true}, {"not(< 5)", null, true}, {"not(< 5)", num(4), false}, {"< 2, > 8", num(9), true}, {"< 2, > 8", num(5), false},
 	} {
 		x := tests(t, c.s)
-		if got, e := All(x, c.v); got != c.want || e != api.OK {
+		if got, e := match.All(x, c.v); got != c.want || e != api.OK {
 			t.Errorf("All(%s, %v): %v, %d", c.s, c.v, got, e)
 		}
 		if x.Not || len(x.List) != 1 {
 			continue
 		}
-		if got, e := One(x.List[0], c.v); got != c.want || e != api.OK {
+		if got, e := match.One(x.List[0], c.v); got != c.want || e != api.OK {
 			t.Errorf("One(%s, %v): %v, %d", c.s, c.v, got, e)
 		}
 	}
@@ -58,7 +59,7 @@ func TestRow(t *testing.T) {
 		{nil, nil, true, 0}, {[]api.Tests{a, b}, []api.Value{num(1), txt("x")}, true, 0}, {[]api.Tests{a, b}, []api.Value{num(5), txt("x")}, false, 0}, {[]api.Tests{a, b}, []api.Value{num(1), txt("y")}, false, 0}, {[]api.Tests{a, b}, []api.Value{txt("x"), num(1)}, false, 0}, {[]api.Tests{any, any}, []api.Value{{}, num(1)}, true, 0},
 		{[]api.Tests{a}, nil, false, api.ErrArg}, {nil, []api.Value{num(1)}, false, api.ErrArg}, {[]api.Tests{{}}, []api.Value{num(1), num(2)}, false, api.ErrArg}, {[]api.Tests{a, {}}, []api.Value{num(9), num(1)}, false, api.ErrForm}, {[]api.Tests{a, b}, []api.Value{num(9), bit(2)}, false, api.ErrForm}, {[]api.Tests{{}, b}, []api.Value{num(1), txt("x")}, false, api.ErrForm}, {[]api.Tests{any}, []api.Value{{N: 1}}, false, api.ErrForm},
 	} {
-		if got, e := Row(c.cells, c.list...); got != c.want || e != c.e {
+		if got, e := match.Row(c.cells, c.list...); got != c.want || e != c.e {
 			t.Errorf("%v, %v: %v, %d", c.cells, c.list, got, e)
 		}
 	}
@@ -67,23 +68,23 @@ func TestRow(t *testing.T) {
 func TestUnsound(t *testing.T) {
 	good := api.Test{Kind: api.IsValue, Low: num(1)}
 	for _, x := range []api.Test{{}, {Kind: 7, Low: num(1)}, {Kind: api.IsLess, Low: txt("a")}, {Kind: api.IsBetween, Low: num(1)}, {Kind: api.IsValue, Low: bit(2)}} {
-		if got, e := One(x, num(1)); got || e != api.ErrForm {
+		if got, e := match.One(x, num(1)); got || e != api.ErrForm {
 			t.Errorf("One(%v): %v, %d", x, got, e)
 		}
-		if got, e := All(api.Tests{List: []api.Test{good, x}}, num(1)); got || e != api.ErrForm {
+		if got, e := match.All(api.Tests{List: []api.Test{good, x}}, num(1)); got || e != api.ErrForm {
 			t.Errorf("All(%v): %v, %d", x, got, e)
 		}
 	}
 	for _, v := range []api.Value{{N: 1}, bit(2), day(-1), txt("\x01"), {Kind: 9}} {
-		if got, e := One(good, v); got || e != api.ErrForm {
+		if got, e := match.One(good, v); got || e != api.ErrForm {
 			t.Errorf("One of %v: %v, %d", v, got, e)
 		}
-		if got, e := All(api.Tests{Any: true}, v); got || e != api.ErrForm {
+		if got, e := match.All(api.Tests{Any: true}, v); got || e != api.ErrForm {
 			t.Errorf("All of %v: %v, %d", v, got, e)
 		}
 	}
 	for _, x := range []api.Tests{{}, {Not: true}, {Any: true, Not: true}} {
-		if got, e := All(x, num(1)); got || e != api.ErrForm {
+		if got, e := match.All(x, num(1)); got || e != api.ErrForm {
 			t.Errorf("%v: %v, %d", x, got, e)
 		}
 	}

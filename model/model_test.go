@@ -1,4 +1,4 @@
-package model
+package model_test
 
 import (
 	"math"
@@ -9,6 +9,7 @@ import (
 	"testing"
 
 	"soffit/api"
+	"soffit/model"
 )
 
 // rich is a model with everything that a model may have.
@@ -27,7 +28,7 @@ const rich = `<model> <!-- all -->
 
 func load(t *testing.T, s string) api.Model {
 	t.Helper()
-	m, at, e := Load(s)
+	m, at, e := model.Load(s)
 	if e != api.OK || at != 0 {
 		t.Fatalf("%.60s: %d, %d", s, at, e)
 	}
@@ -41,7 +42,7 @@ func txt(s string) api.Value { return api.Value{Kind: api.Text, Text: s} }
 
 func TestLoad(t *testing.T) {
 	m := load(t, rich)
-	if !Sound(m) || len(m.Inputs) != 4 || len(m.Decisions) != 3 {
+	if !model.Sound(m) || len(m.Inputs) != 4 || len(m.Decisions) != 3 {
 		t.Fatalf("%v", m)
 	}
 	any := api.Tests{Any: true}
@@ -73,14 +74,14 @@ func TestLoad(t *testing.T) {
 	if d := m.Decisions[2]; d.Table || d.Expr.Op != api.OpIf || d.Policy != 0 || !slices.Equal(d.Needs, []string{"late", "b"}) {
 		t.Errorf("expression: %v", d)
 	}
-	if order, e := Order(m); !slices.Equal(order, []int{1, 0, 2}) || e != api.OK {
+	if order, e := model.Order(m); !slices.Equal(order, []int{1, 0, 2}) || e != api.OK {
 		t.Errorf("order: %v, %d", order, e)
 	}
 }
 
 func TestText(t *testing.T) {
 	m := load(t, rich)
-	s, e := Text(m)
+	s, e := model.Text(m)
 	want := `<model><input name="x" type="number" scale="2" allowed="[0..100]"/><input name="t" type="text" allowed="not(&quot;z&quot;)"/><input name="b" type="bool"/><input name="d" type="date"/>` +
 		`<decision name="late" type="text"><need name="early"/><need name="t"/><table policy="P" default="&quot;none&quot;"><order>&quot;hi&quot;</order><order>&quot;lo&quot;</order><column name="t"/><column name="early"/>` +
 		`<rule><cell>-</cell><cell>&gt;= 3, null</cell><out>&quot;hi&quot;</out></rule><rule><cell>&quot;a&quot;, &quot;b&quot;</cell><cell>not(1)</cell><out>&quot;lo&quot;</out></rule></table></decision>` +
@@ -89,23 +90,23 @@ func TestText(t *testing.T) {
 	if s != want || e != api.OK {
 		t.Errorf("%s, %d", s, e)
 	}
-	if back := load(t, s); !Same(back, m) || !reflect.DeepEqual(back, m) {
+	if back := load(t, s); !model.Same(back, m) || !reflect.DeepEqual(back, m) {
 		t.Errorf("back: %v", back)
 	}
-	if s, e := Text(api.Model{}); s != "" || e != api.ErrForm {
+	if s, e := model.Text(api.Model{}); s != "" || e != api.ErrForm {
 		t.Errorf("an unsound model: %q, %d", s, e)
 	}
 	many := load(t, rich)
 	for range api.MaxNodes - 40 {
 		many.Decisions[0].Order = append(many.Decisions[0].Order, api.Value{})
 	}
-	if s, e := Text(many); s != "" || e != api.ErrLarge {
+	if s, e := model.Text(many); s != "" || e != api.ErrLarge {
 		t.Errorf("a text that is too long: %d, %d", len(s), e)
 	}
 	for range 100 {
 		many.Decisions[0].Order = append(many.Decisions[0].Order, api.Value{})
 	}
-	if s, e := Text(many); s != "" || e != api.ErrLarge && e != api.ErrForm {
+	if s, e := model.Text(many); s != "" || e != api.ErrLarge && e != api.ErrForm {
 		t.Errorf("too many elements: %d, %d", len(s), e)
 	}
 	long := api.Expr{Op: api.OpValue, Value: txt(strings.Repeat("a", 256))}
@@ -114,7 +115,7 @@ func TestText(t *testing.T) {
 	}
 	many = load(t, rich)
 	many.Decisions[2].Expr = long
-	if s, e := Text(many); s != "" || e != api.ErrLarge {
+	if s, e := model.Text(many); s != "" || e != api.ErrLarge {
 		t.Errorf("an expression that is too long: %d, %d", len(s), e)
 	}
 }
@@ -150,7 +151,7 @@ func TestFaults(t *testing.T) {
 			t.Fatalf("%d: the test is wrong: %s", i, c.new)
 		}
 		want += len(c.at) - len(strings.TrimLeft(c.at, " "))
-		m, at, e := Load(s)
+		m, at, e := model.Load(s)
 		if at != want || e != c.e || len(m.Inputs) != 0 || len(m.Decisions) != 0 {
 			t.Errorf("%d, %s: %d, %d, want %d, %d", i, c.new, at, e, want, c.e)
 		}
@@ -161,7 +162,7 @@ func TestPolicyTypes(t *testing.T) {
 	s := `<model><input name="x" type="bool"/><decision name="d" type="text"><need name="x"/><table policy="F"><column name="x"/><rule><cell>-</cell><out>null</out></rule></table></decision></model>`
 	load(t, s)
 	for _, sign := range []string{"+", "#"} {
-		if _, at, e := Load(strings.Replace(s, "F", sign, 1)); at != strings.Index(s, "<table") || e != api.ErrType {
+		if _, at, e := model.Load(strings.Replace(s, "F", sign, 1)); at != strings.Index(s, "<table") || e != api.ErrType {
 			t.Errorf("%s: %d, %d", sign, at, e)
 		}
 		load(t, strings.Replace(strings.Replace(s, "F", sign, 1), "text", "number", 1))
@@ -183,14 +184,14 @@ func TestStages(t *testing.T) {
 		{`<need name="x"/><expression`, `<need name="d"/><expression`, `<decision name="d"`, api.ErrCycle}, {`<column name="e"/>`, `<column name="q"/>`, `<column name="q"`, api.ErrRef}, {`<need name="e"/>`, `<need name="q"/>`, `<need name="q"`, api.ErrRef}, {`<decision name="e"`, `<decision name="x"`, `<decision name="x"`, api.ErrName}, {`<expression>`, `<expression z="">`, `<expression`, api.ErrShape}, {`<cell>5`, `<cell z="">5`, `<cell z`, api.ErrShape}, {`</model>`, `&</model>`, `&<`, api.ErrName},
 	} {
 		s = strings.Replace(s, c.old, c.new, 1)
-		if _, got, e := Load(s); got != at(c.at) || e != c.e {
+		if _, got, e := model.Load(s); got != at(c.at) || e != c.e {
 			t.Errorf("%s: %d, %d, want %d, %d", c.new, got, e, at(c.at), c.e)
 		}
 	}
-	if _, at, e := Load(""); at != 0 || e != api.ErrTag {
+	if _, at, e := model.Load(""); at != 0 || e != api.ErrTag {
 		t.Errorf("no text: %d, %d", at, e)
 	}
-	if _, at, e := Load("  <models/>"); at != 2 || e != api.ErrShape {
+	if _, at, e := model.Load("  <models/>"); at != 2 || e != api.ErrShape {
 		t.Errorf("another element: %d, %d", at, e)
 	}
 }
@@ -225,7 +226,7 @@ func TestCounts(t *testing.T) {
 		at     string
 	}{{[4]int{7, 1, 1, 1}, "<model"}, {[4]int{0, 1, 0, 1}, "<model"}, {[4]int{1, 0, 1, 1}, "<model"}, {[4]int{1, 7, 1, 1}, "<model"}, {[4]int{6, 2, 5, 1}, "<table"}, {[4]int{6, 2, 0, 1}, "<table"}, {[4]int{6, 1, 1, 7}, "<table"}, {[4]int{6, 1, 1, 0}, "<table"}} {
 		s := count(c.counts[0], c.counts[1], c.counts[2], c.counts[3])
-		if _, at, e := Load(s); at != strings.Index(s, c.at) || e != api.ErrShape {
+		if _, at, e := model.Load(s); at != strings.Index(s, c.at) || e != api.ErrShape {
 			t.Errorf("%v: %d, %d", c.counts, at, e)
 		}
 	}
@@ -247,16 +248,16 @@ func TestSound(t *testing.T) {
 	} {
 		m := load(t, rich)
 		spoil(&m)
-		if Sound(m) {
+		if model.Sound(m) {
 			t.Errorf("%d: sound", i)
 		}
-		if s, e := Text(m); s != "" || e != api.ErrForm {
+		if s, e := model.Text(m); s != "" || e != api.ErrForm {
 			t.Errorf("%d: %q, %d", i, s, e)
 		}
-		if o, e := Order(m); o != nil || e != api.ErrForm {
+		if o, e := model.Order(m); o != nil || e != api.ErrForm {
 			t.Errorf("%d: %v, %d", i, o, e)
 		}
-		if o := load(t, rich); Same(o, m) || Same(m, o) {
+		if o := load(t, rich); model.Same(o, m) || model.Same(m, o) {
 			t.Errorf("%d: the same", i)
 		}
 	}
@@ -266,7 +267,7 @@ func TestSame(t *testing.T) {
 	a, b := load(t, rich), load(t, rich)
 	b.Decisions[0].Expr.Kids = []api.Expr{}
 	b.Decisions[2].Rules = []api.Rule{}
-	if !Same(a, b) || !Same(api.Model{}, api.Model{Inputs: []api.Input{}}) {
+	if !model.Same(a, b) || !model.Same(api.Model{}, api.Model{Inputs: []api.Input{}}) {
 		t.Error("equal models are not the same")
 	}
 	for i, change := range []func(m *api.Model){
@@ -274,7 +275,7 @@ func TestSame(t *testing.T) {
 	} {
 		c := load(t, rich)
 		change(&c)
-		if Same(a, c) || Same(c, a) {
+		if model.Same(a, c) || model.Same(c, a) {
 			t.Errorf("%d: the same", i)
 		}
 	}
@@ -283,15 +284,15 @@ func TestSame(t *testing.T) {
 func TestTypeOf(t *testing.T) {
 	m := load(t, rich)
 	for name, want := range map[string]int{"x": api.Number, "t": api.Text, "d": api.Date, "late": api.Text, "early": api.Number, "sum": api.Bool} {
-		if got, ok := TypeOf(m, name); got.Kind != want || !ok {
+		if got, ok := model.TypeOf(m, name); got.Kind != want || !ok {
 			t.Errorf("%s: %v, %v", name, got, ok)
 		}
 	}
-	if got, ok := TypeOf(m, "q"); !reflect.DeepEqual(got, api.Type{}) || ok {
+	if got, ok := model.TypeOf(m, "q"); !reflect.DeepEqual(got, api.Type{}) || ok {
 		t.Errorf("q: %v, %v", got, ok)
 	}
 	m.Decisions[0].Name, m.Inputs[3].Name = "x", "x"
-	if got, _ := TypeOf(m, "x"); got.Kind != api.Number || got.Scale != 2 {
+	if got, _ := model.TypeOf(m, "x"); got.Kind != api.Number || got.Scale != 2 {
 		t.Errorf("the first x: %v", got)
 	}
 }

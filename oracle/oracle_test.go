@@ -1,4 +1,4 @@
-package oracle
+package oracle_test
 
 import (
 	"reflect"
@@ -8,6 +8,7 @@ import (
 
 	"soffit/api"
 	"soffit/model"
+	"soffit/oracle"
 	"soffit/shape"
 	"soffit/value"
 )
@@ -62,7 +63,7 @@ func TestEval(t *testing.T) {
 		// low is not below 3, so it is null, and so is the sum.
 		{"8;true", `null;null;null`, [][]int{{1}, nil, {0, 1, 2}}}, {"null;true", `null;null;1`, [][]int{{1}, nil, {2}}}, {"1;true", `null;null;1`, [][]int{{1}, nil, {0}}},
 	} {
-		got, fired, e := Eval(m, values(t, c.in)...)
+		got, fired, e := oracle.Eval(m, values(t, c.in)...)
 		if texts(got) != c.want || e != api.OK || len(fired) != 3 {
 			t.Errorf("%s: %s, %d", c.in, texts(got), e)
 			continue
@@ -72,7 +73,7 @@ func TestEval(t *testing.T) {
 				t.Errorf("%s: %v", c.in, fired)
 			}
 		}
-		k, e := Case(m, values(t, c.in)...)
+		k, e := oracle.Case(m, values(t, c.in)...)
 		if texts(k.Inputs) != c.in || texts(k.Expected) != c.want || e != api.OK {
 			t.Errorf("%s: %v, %d", c.in, k, e)
 		}
@@ -88,7 +89,7 @@ func TestPolicies(t *testing.T) {
 		m := load(t, strings.Replace(s, "?", sign, 1))
 		var got []string
 		for n := range 5 {
-			v, _, e := Eval(m, api.Value{Kind: api.Number, Dec: api.Dec{N: n + 1}})
+			v, _, e := oracle.Eval(m, api.Value{Kind: api.Number, Dec: api.Dec{N: n + 1}})
 			if e != api.OK {
 				t.Fatalf("%d", e)
 			}
@@ -111,16 +112,16 @@ func TestWrongArguments(t *testing.T) {
 	}{
 		{api.Model{}, "1", api.ErrForm}, {unsound, "1;true;2", api.ErrForm}, {m, "1", api.ErrArg}, {m, "1;true;true", api.ErrArg}, {m, "1.5", api.ErrArg}, {m, "1.5;true", api.ErrRange}, {m, `"a";true`, api.ErrRange}, {m, "1;2", api.ErrRange},
 	} {
-		got, fired, e := Eval(c.m, values(t, c.in)...)
-		k, f := Case(c.m, values(t, c.in)...)
+		got, fired, e := oracle.Eval(c.m, values(t, c.in)...)
+		k, f := oracle.Case(c.m, values(t, c.in)...)
 		if got != nil || fired != nil || e != c.e || f != c.e || !reflect.DeepEqual(k, api.Case{}) {
 			t.Errorf("%s: %v, %v, %d, %d", c.in, got, fired, e, f)
 		}
 	}
-	if _, _, e := Eval(m); e != api.ErrArg {
+	if _, _, e := oracle.Eval(m); e != api.ErrArg {
 		t.Errorf("no inputs: %d", e)
 	}
-	if _, _, e := Eval(m, api.Value{Kind: api.Number, Dec: api.Dec{N: 10, Scale: 1}}, api.Value{}); e != api.ErrRange {
+	if _, _, e := oracle.Eval(m, api.Value{Kind: api.Number, Dec: api.Dec{N: 10, Scale: 1}}, api.Value{}); e != api.ErrRange {
 		t.Errorf("an unsound input: %d", e)
 	}
 }
@@ -128,7 +129,7 @@ func TestWrongArguments(t *testing.T) {
 func TestMemory(t *testing.T) {
 	m := load(t, chain)
 	in := values(t, "6;true")
-	k, _ := Case(m, in...)
+	k, _ := oracle.Case(m, in...)
 	k.Inputs[0] = api.Value{}
 	if in[0].Kind != api.Number {
 		t.Error("a case shares memory with the inputs")

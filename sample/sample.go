@@ -145,13 +145,13 @@ func (k *maker) fill(d *api.Decision, names []string, types []api.Type, size Siz
 	}
 	outputs := Values(d.Type)
 	outputs = outputs[:min(len(outputs), 7)]
-	any := func() api.Value { return outputs[k.below(len(outputs))] }
-	d.Default = any()
+	pick := func() api.Value { return outputs[k.below(len(outputs))] }
+	d.Default = pick()
 	for range k.below(3) {
-		d.Order = append(d.Order, any())
+		d.Order = append(d.Order, pick())
 	}
 	for range 1 + k.below(size.Rules) {
-		r := api.Rule{Output: any()}
+		r := api.Rule{Output: pick()}
 		for _, name := range d.Columns {
 			r.Cells = append(r.Cells, k.cell(types[slices.Index(names, name)], size.Items))
 		}

@@ -1,4 +1,4 @@
-package sets
+package sets_test
 
 import (
 	"math"
@@ -11,6 +11,7 @@ import (
 	"soffit/api"
 	"soffit/deci"
 	"soffit/match"
+	"soffit/sets"
 	"soffit/unary"
 )
 
@@ -47,18 +48,18 @@ func unsound() []api.Type {
 
 func TestSound(t *testing.T) {
 	for _, x := range unsound() {
-		if Sound(x) {
+		if sets.Sound(x) {
 			t.Errorf("%v is sound", x)
 		}
 		s := api.Set{Kind: x.Kind, Null: true}
-		if In(x, null()) || Has(x, s, null()) {
+		if sets.In(x, null()) || sets.Has(x, s, null()) {
 			t.Errorf("%v has values", x)
 		}
-		a, e1 := Full(x)
-		b, e2 := Of(x, api.Tests{Any: true})
-		c, e3 := One(x, null())
-		d, e4 := Other(x, s)
-		v, e5 := Pick(x, s)
+		a, e1 := sets.Full(x)
+		b, e2 := sets.Of(x, api.Tests{Any: true})
+		c, e3 := sets.One(x, null())
+		d, e4 := sets.Other(x, s)
+		v, e5 := sets.Pick(x, s)
 		for i, e := range []api.Errno{e1, e2, e3, e4, e5} {
 			if e != api.ErrForm {
 				t.Errorf("%v, %d: %d", x, i, e)
@@ -71,11 +72,11 @@ func TestSound(t *testing.T) {
 		}
 	}
 	for _, x := range []api.Type{kind(t, api.Number, 6, "-"), kind(t, api.Text, 0, "5"), kind(t, api.Bool, 0, "true"), kind(t, api.Date, 0, "not(null)")} {
-		if !Sound(x) {
+		if !sets.Sound(x) {
 			t.Errorf("%v is not sound", x)
 		}
 	}
-	if _, e := Of(kind(t, api.Number, 0, "-"), api.Tests{}); e != api.ErrForm {
+	if _, e := sets.Of(kind(t, api.Number, 0, "-"), api.Tests{}); e != api.ErrForm {
 		t.Errorf("unsound tests: %d", e)
 	}
 }
@@ -91,14 +92,14 @@ func TestIn(t *testing.T) {
 		{kind(t, api.Number, 1, "[1..2)"), num(15, 1), true}, {kind(t, api.Number, 1, "[1..2)"), num(2, 0), false}, {kind(t, api.Number, 1, "[1..2)"), null(), true}, {kind(t, api.Number, 0, "not(null)"), null(), true}, {kind(t, api.Number, 0, `"a"`), num(1, 0), false}, {kind(t, api.Number, 0, `"a"`), txt("a"), false}, {kind(t, api.Number, 0, `not("a")`), num(1, 0), true},
 		{kind(t, api.Text, 0, `"a", "b"`), txt("a"), true}, {kind(t, api.Text, 0, `"a", "b"`), txt("c"), false}, {kind(t, api.Bool, 0, "true"), truth(1), true}, {kind(t, api.Bool, 0, "true"), truth(0), false}, {kind(t, api.Bool, 0, "-"), truth(2), false}, {kind(t, api.Date, 0, `< @"0001-01-03"`), day(1), true}, {kind(t, api.Date, 0, `< @"0001-01-03"`), day(2), false},
 	} {
-		if In(c.t, c.v) != c.want {
+		if sets.In(c.t, c.v) != c.want {
 			t.Errorf("In(%v, %v) is not %v", c.t, c.v, c.want)
 		}
-		s, e := One(c.t, c.v)
+		s, e := sets.One(c.t, c.v)
 		if c.want != (e == api.OK) || !c.want && e != api.ErrRange {
 			t.Errorf("One(%v, %v): %v, %d", c.t, c.v, s, e)
 		}
-		if c.want && !Has(c.t, s, c.v) {
+		if c.want && !sets.Has(c.t, s, c.v) {
 			t.Errorf("One(%v, %v) hasn't it: %v", c.t, c.v, s)
 		}
 	}
@@ -127,20 +128,20 @@ func TestOf(t *testing.T) {
 		{0, "-", `"a"`, number(false)}, {0, "-", `not("a")`, number(true, -c, c)}, {0, "-", `< @"2000-01-01"`, number(false)}, {0, "-", "true", number(false)}, {6, "-", "999999999999", number(false)}, {6, "-", "< 999999999999", number(false, -c, c)}, {6, "-", "> 999999999999", number(false)}, {6, "-", "> -999999999999", number(false, -c, c)},
 		{0, "[1..9]", "-", number(true, 1, 9)}, {0, "[1..9]", "> 5", number(false, 6, 9)}, {0, "[1..9]", "not(5)", number(true, 1, 4, 6, 9)}, {0, "not(null)", "-", number(true, -c, c)}, {0, `"a"`, "-", number(true)}, {0, "not([1..9])", "[5..12]", number(false, 10, 12)},
 	} {
-		got, e := Of(kind(t, api.Number, x.scale, x.allowed), tests(t, x.test))
+		got, e := sets.Of(kind(t, api.Number, x.scale, x.allowed), tests(t, x.test))
 		if e != api.OK || got.Kind != x.want.Kind || got.Null != x.want.Null || !slices.Equal(got.Spans, x.want.Spans) || got.Bools != 0 || got.Words.All || len(got.Words.List) != 0 {
 			t.Errorf("%d, %s, %s: %v, %d", x.scale, x.allowed, x.test, got, e)
 		}
 	}
-	s, _ := Of(kind(t, api.Text, 0, "-"), tests(t, `not("b", "a", 5)`))
+	s, _ := sets.Of(kind(t, api.Text, 0, "-"), tests(t, `not("b", "a", 5)`))
 	if !s.Words.All || !slices.Equal(s.Words.List, []string{"a", "b"}) || !s.Null {
 		t.Errorf("texts: %v", s)
 	}
-	s, _ = Of(kind(t, api.Bool, 0, "-"), tests(t, "not(true)"))
+	s, _ = sets.Of(kind(t, api.Bool, 0, "-"), tests(t, "not(true)"))
 	if s.Bools != 1 || !s.Null {
 		t.Errorf("truths: %v", s)
 	}
-	s, _ = Of(kind(t, api.Date, 0, `>= @"9999-12-30"`), tests(t, `not(@"9999-12-30")`))
+	s, _ = sets.Of(kind(t, api.Date, 0, `>= @"9999-12-30"`), tests(t, `not(@"9999-12-30")`))
 	if !slices.Equal(s.Spans, spansOf(api.MaxDay, api.MaxDay)) || !s.Null {
 		t.Errorf("days: %v", s)
 	}
@@ -148,25 +149,25 @@ func TestOf(t *testing.T) {
 
 func TestMeetOtherEmpty(t *testing.T) {
 	odd := api.Set{Kind: api.Bool, Bools: 0x7e, Spans: spansOf(1, 2), Words: api.Words{All: true, List: []string{"a"}}}
-	if s, e := Meet(odd, api.Set{Kind: api.Bool, Bools: -1, Null: true}); !reflect.DeepEqual(s, api.Set{Kind: api.Bool, Bools: 2}) || e != api.OK {
+	if s, e := sets.Meet(odd, api.Set{Kind: api.Bool, Bools: -1, Null: true}); !reflect.DeepEqual(s, api.Set{Kind: api.Bool, Bools: 2}) || e != api.OK {
 		t.Errorf("truths: %v, %d", s, e)
 	}
-	if s, e := Meet(api.Set{Kind: api.Number, Spans: spansOf(5, 9, 1, 4, 3, 2), Bools: 3}, api.Set{Kind: api.Number, Spans: spansOf(0, 7)}); !reflect.DeepEqual(s, api.Set{Kind: api.Number, Spans: spansOf(1, 7)}) || e != api.OK {
+	if s, e := sets.Meet(api.Set{Kind: api.Number, Spans: spansOf(5, 9, 1, 4, 3, 2), Bools: 3}, api.Set{Kind: api.Number, Spans: spansOf(0, 7)}); !reflect.DeepEqual(s, api.Set{Kind: api.Number, Spans: spansOf(1, 7)}) || e != api.OK {
 		t.Errorf("numbers: %v, %d", s, e)
 	}
-	if s, e := Meet(api.Set{Kind: api.Text, Words: api.Words{List: []string{"b", "a", "\x01"}}, Null: true}, api.Set{Kind: api.Text, Words: api.Words{All: true}, Null: true}); !reflect.DeepEqual(s, api.Set{Kind: api.Text, Words: api.Words{List: []string{"a", "b"}}, Null: true}) || e != api.OK {
+	if s, e := sets.Meet(api.Set{Kind: api.Text, Words: api.Words{List: []string{"b", "a", "\x01"}}, Null: true}, api.Set{Kind: api.Text, Words: api.Words{All: true}, Null: true}); !reflect.DeepEqual(s, api.Set{Kind: api.Text, Words: api.Words{List: []string{"a", "b"}}, Null: true}) || e != api.OK {
 		t.Errorf("texts: %v, %d", s, e)
 	}
 	for _, c := range [][2]int{{api.Number, api.Date}, {0, 0}, {5, 5}, {-1, -1}, {api.Text, 0}} {
-		if s, e := Meet(api.Set{Kind: c[0], Null: true}, api.Set{Kind: c[1], Null: true}); !reflect.DeepEqual(s, api.Set{}) || e != api.ErrArg {
+		if s, e := sets.Meet(api.Set{Kind: c[0], Null: true}, api.Set{Kind: c[1], Null: true}); !reflect.DeepEqual(s, api.Set{}) || e != api.ErrArg {
 			t.Errorf("%v: %v, %d", c, s, e)
 		}
 	}
 	n := kind(t, api.Number, 0, "[1..9]")
-	if s, e := Other(n, api.Set{Kind: api.Number, Spans: spansOf(3, 4, -5, 1), Null: true}); !reflect.DeepEqual(s, api.Set{Kind: api.Number, Spans: spansOf(2, 2, 5, 9)}) || e != api.OK {
+	if s, e := sets.Other(n, api.Set{Kind: api.Number, Spans: spansOf(3, 4, -5, 1), Null: true}); !reflect.DeepEqual(s, api.Set{Kind: api.Number, Spans: spansOf(2, 2, 5, 9)}) || e != api.OK {
 		t.Errorf("Other: %v, %d", s, e)
 	}
-	if s, e := Other(n, api.Set{Kind: api.Date}); !reflect.DeepEqual(s, api.Set{}) || e != api.ErrArg {
+	if s, e := sets.Other(n, api.Set{Kind: api.Date}); !reflect.DeepEqual(s, api.Set{}) || e != api.ErrArg {
 		t.Errorf("Other of another kind: %v, %d", s, e)
 	}
 	for _, c := range []struct {
@@ -176,7 +177,7 @@ func TestMeetOtherEmpty(t *testing.T) {
 		{api.Set{}, true}, {api.Set{Null: true}, true}, {api.Set{Kind: 5, Null: true, Bools: 3}, true}, {api.Set{Kind: api.Number}, true}, {api.Set{Kind: api.Number, Null: true}, false}, {api.Set{Kind: api.Number, Spans: spansOf(2, 1)}, true}, {api.Set{Kind: api.Number, Spans: spansOf(2, 1, 5, 5)}, false}, {api.Set{Kind: api.Number, Bools: 3, Words: api.Words{All: true}}, true},
 		{api.Set{Kind: api.Date, Spans: spansOf(1, 1)}, false}, {api.Set{Kind: api.Text}, true}, {api.Set{Kind: api.Text, Spans: spansOf(1, 2)}, true}, {api.Set{Kind: api.Text, Words: api.Words{All: true}}, false}, {api.Set{Kind: api.Text, Words: api.Words{List: []string{"\x01"}}}, true}, {api.Set{Kind: api.Bool, Bools: 4}, true}, {api.Set{Kind: api.Bool, Bools: 2}, false}, {api.Set{Kind: -1, Null: true}, true},
 	} {
-		if Empty(c.s) != c.want {
+		if sets.Empty(c.s) != c.want {
 			t.Errorf("Empty(%v) is not %v", c.s, c.want)
 		}
 	}
@@ -196,7 +197,7 @@ func TestPick(t *testing.T) {
 		{bools, api.Set{Kind: api.Bool, Bools: 3, Null: true}, truth(0), 0}, {bools, api.Set{Kind: api.Bool, Bools: 2}, truth(1), 0}, {bools, api.Set{Kind: api.Bool, Bools: 4, Null: true}, null(), 0}, {bools, api.Set{Kind: api.Bool, Bools: 4}, null(), api.ErrNone},
 		{date, api.Set{Kind: api.Date, Spans: spansOf(0, api.MaxDay), Null: true}, day(730119), 0}, {date, api.Set{Kind: api.Date, Spans: spansOf(730121, 730130, 730117, 730117)}, day(730117), 0}, {date, api.Set{Kind: api.Date, Spans: spansOf(-9, -1)}, null(), api.ErrNone},
 	} {
-		if v, e := Pick(c.t, c.s); v != c.want || e != c.e {
+		if v, e := sets.Pick(c.t, c.s); v != c.want || e != c.e {
 			t.Errorf("Pick(%v, %v): %v, %d", c.t, c.s, v, e)
 		}
 	}
@@ -205,9 +206,9 @@ func TestPick(t *testing.T) {
 func TestMemory(t *testing.T) {
 	a := api.Set{Kind: api.Text, Words: api.Words{List: []string{"a", "b"}}}
 	b := api.Set{Kind: api.Number, Spans: spansOf(1, 5)}
-	m, _ := Meet(a, a)
-	n, _ := Meet(b, b)
-	o, _ := Other(kind(t, api.Number, 0, "-"), b)
+	m, _ := sets.Meet(a, a)
+	n, _ := sets.Meet(b, b)
+	o, _ := sets.Other(kind(t, api.Number, 0, "-"), b)
 	m.Words.List[0], n.Spans[0].Low, o.Spans[0].Low = "x", 9, 9
 	if a.Words.List[0] != "a" || b.Spans[0].Low != 1 {
 		t.Error("a result shares memory with an argument")
@@ -257,27 +258,27 @@ func TestSomeSets(t *testing.T) {
 			ty.Scale = []int{0, 1, 2, 6}[r.Intn(4)]
 		}
 		x, y := someTests(r), someTests(r)
-		f, _ := Full(ty)
-		a, e1 := Of(ty, x)
-		b, e2 := Of(ty, y)
-		m, e3 := Meet(a, b)
-		o, e4 := Other(ty, a)
+		f, _ := sets.Full(ty)
+		a, e1 := sets.Of(ty, x)
+		b, e2 := sets.Of(ty, y)
+		m, e3 := sets.Meet(a, b)
+		o, e4 := sets.Other(ty, a)
 		if e1 != 0 || e2 != 0 || e3 != 0 || e4 != 0 {
 			t.Fatalf("%v: %d, %d, %d, %d", ty, e1, e2, e3, e4)
 		}
 		for _, v := range points() {
-			in := In(ty, v)
+			in := sets.In(ty, v)
 			hx, _ := match.All(x, v)
 			hy, _ := match.All(y, v)
-			if Has(ty, f, v) != in || Has(ty, a, v) != (in && hx) || Has(ty, m, v) != (in && hx && hy) || Has(ty, o, v) != (in && !hx) {
+			if sets.Has(ty, f, v) != in || sets.Has(ty, a, v) != (in && hx) || sets.Has(ty, m, v) != (in && hx && hy) || sets.Has(ty, o, v) != (in && !hx) {
 				t.Fatalf("%v: %v of %v, %v: %v, %v, %v", v, ty, x, y, a, m, o)
 			}
-			if Has(ty, m, v) && Empty(m) {
+			if sets.Has(ty, m, v) && sets.Empty(m) {
 				t.Fatalf("%v is empty", m)
 			}
 		}
-		v, e := Pick(ty, m)
-		if (e == api.OK) == Empty(m) || e == api.OK && !Has(ty, m, v) {
+		v, e := sets.Pick(ty, m)
+		if (e == api.OK) == sets.Empty(m) || e == api.OK && !sets.Has(ty, m, v) {
 			t.Fatalf("Pick(%v, %v): %v, %d", ty, m, v, e)
 		}
 	}

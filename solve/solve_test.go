@@ -1,8 +1,9 @@
-package solve
+package solve_test
 
 import (
 	"math"
-	"slices"
+	"strconv"
+	"strings"
 	"testing"
 
 	"soffit/api"
@@ -12,6 +13,7 @@ import (
 	"soffit/oracle"
 	"soffit/sample"
 	"soffit/sets"
+	"soffit/solve"
 )
 
 func load(t *testing.T, s string) api.Model {
@@ -39,33 +41,55 @@ const small = `<model><input name="x" type="number"/><input name="b" type="bool"
 <decision name="g" type="number"><need name="f"/><need name="x"/><table policy="F"><column name="f"/><column name="x"/><rule><cell>-</cell><cell>7</cell><out>1</out></rule></table></decision>
 </model>`
 
+// reached returns, of some inputs, those that Reach finds, as a text.
+func reached(t *testing.T, m api.Model, name string, s api.Set, budget int) string {
+	t.Helper()
+	list, e := solve.Reach(m, name, s, budget)
+	if e != api.OK {
+		return "error"
+	}
+	var types []api.Type
+	for _, in := range m.Inputs {
+		types = append(types, in.Type)
+	}
+	var out strings.Builder
+	for n := range 12 {
+		for _, b := range []api.Value{{}, {Kind: api.Bool}, {Kind: api.Bool, N: 1}} {
+			if boxes.Has(types, list, num(n), b) {
+				out.WriteString(" " + strconv.Itoa(n) + []string{"n", "f", "t"}[b.Kind/api.Bool+b.N])
+			}
+		}
+	}
+	if boxes.Has(types, list, api.Value{}, api.Value{}) {
+		out.WriteString(" null")
+	}
+	return out.String()
+}
+
 func TestReach(t *testing.T) {
 	m := load(t, small)
-	types := []api.Type{m.Inputs[0].Type, m.Inputs[1].Type}
-	mid := api.Set{Kind: api.Text, Words: api.Words{List: []string{"mid"}}}
-	list, e := Reach(m, "d", mid, api.Unlimited)
-	if e != api.OK || len(list) != 1 || !slices.Equal(list[0][0].Spans, spans(5, 9).Spans) || list[0][0].Null || list[0][1].Bools != 2 || list[0][1].Null {
-		t.Errorf("mid: %v, %d", list, e)
+	texts := func(list ...string) api.Set { return api.Set{Kind: api.Text, Words: api.Words{List: list}} }
+	all := reached(t, m, "d", api.Set{Kind: api.Text, Words: api.Words{All: true}, Null: true}, api.Unlimited)
+	if strings.Count(all, " ") != 37 {
+		t.Errorf("everything: %s", all)
 	}
-	list, e = Reach(m, "x", spans(4, 4, math.MinInt, -api.MaxCoef), api.Unlimited)
-	if e != api.OK || len(list) != 1 || !slices.Equal(list[0][0].Spans, spans(-api.MaxCoef, -api.MaxCoef, 4, 4).Spans) || list[0][1].Bools != 3 || !list[0][1].Null {
-		t.Errorf("x: %v, %d", list, e)
-	}
-	list, e = Reach(m, "d", api.Set{Kind: api.Text, Words: api.Words{All: true}, Null: true}, 1)
-	full, _ := boxes.Full(types)
-	if e != api.OK || len(list) != 1 || !boxes.Has(types, list, num(1), api.Value{}) || list[0][0].Spans[0] != full[0].Spans[0] {
-		t.Errorf("everything: %v, %d", list, e)
-	}
-	for _, s := range []api.Set{{Kind: api.Text, Words: api.Words{List: []string{"no"}}}, {Kind: api.Text}, {Kind: api.Text, Words: api.Words{List: []string{"x", "\x01"}}}} {
-		if list, e := Reach(m, "d", s, 0); len(list) != 0 || e != api.OK && e != api.ErrFull {
-			t.Errorf("%v: %v, %d", s, list, e)
+	for i, c := range []struct {
+		name string
+		s    api.Set
+		want string
+	}{
+		{"d", texts("mid"), " 5t 6t 7t 8t 9t"}, {"d", texts("low", "mid", "\x01"), " 0n 0f 0t 1n 1f 1t 2n 2f 2t 3n 3f 3t 4n 4f 4t 5t 6t 7t 8t 9t"}, {"d", texts("no"), ""}, {"d", texts(), ""}, {"d", texts("x", "\x01"), ""},
+		{"x", spans(4, 4, math.MinInt, -api.MaxCoef), " 4n 4f 4t"}, {"x", spans(1, 0), ""}, {"b", api.Set{Kind: api.Bool, Bools: 5, Null: true}, " 0n 0f 1n 1f 2n 2f 3n 3f 4n 4f 5n 5f 6n 6f 7n 7f 8n 8f 9n 9f 10n 10f 11n 11f null"},
+		{"e", api.Set{Kind: api.Bool, Bools: 3}, ""}, {"e", api.Set{Kind: api.Bool, Null: true}, all},
+	} {
+		if got := reached(t, m, c.name, c.s, api.Unlimited); got != c.want {
+			t.Errorf("%d: %s, want %s", i, got, c.want)
 		}
-		if list, e := Reach(m, "d", s, api.Unlimited); len(list) != 0 || e != api.OK {
-			t.Errorf("%v: %v, %d", s, list, e)
+		for budget := range 4 {
+			if got := reached(t, m, c.name, c.s, budget); got != c.want && got != "error" {
+				t.Errorf("%d, budget %d: %s, want %s", i, budget, got, c.want)
+			}
 		}
-	}
-	if list, e := Reach(m, "x", spans(1, 0), 0); len(list) != 0 || e != api.OK {
-		t.Errorf("nothing: %v, %d", list, e)
 	}
 }
 
@@ -81,7 +105,7 @@ func TestWrongArguments(t *testing.T) {
 		{api.Model{}, "q", api.Set{}, -9, api.ErrForm}, {m, "q", spans(1, 2), 9, api.ErrArg}, {m, "x", api.Set{Kind: api.Date}, 9, api.ErrArg}, {m, "x", api.Set{}, 9, api.ErrArg}, {m, "x", spans(1, 2), -2, api.ErrArg}, {m, "x", spans(1, 2), math.MinInt, api.ErrArg}, {m, "f", api.Set{Kind: api.Text}, 9, api.ErrArg}, {m, "f", spans(1, 2), -2, api.ErrArg},
 		{m, "f", spans(1, 2), 9, api.ErrNone}, {m, "g", spans(1, 2), api.Unlimited, api.ErrNone}, {m, "f", spans(), 0, api.ErrNone},
 	} {
-		if list, e := Reach(c.m, c.name, c.s, c.budget); list != nil || e != c.e {
+		if list, e := solve.Reach(c.m, c.name, c.s, c.budget); list != nil || e != c.e {
 			t.Errorf("%d: %v, %d", i, list, e)
 		}
 	}
@@ -94,7 +118,7 @@ func TestWrongArguments(t *testing.T) {
 	}{
 		{api.Model{}, good, 9, api.ErrForm}, {api.Model{}, good, -2, api.ErrForm}, {m, good, -2, api.ErrArg}, {m, api.Duty{}, 9, api.ErrArg}, {m, api.Duty{Kind: api.Fires, Decision: 2}, 9, api.ErrArg}, {m, api.Duty{Kind: api.Side, Cell: 1}, 9, api.ErrArg}, {m, api.Duty{Kind: api.Fires, Rule: 3}, 9, api.ErrArg}, {m, api.Duty{Kind: api.Boundary, Value: num(4)}, 9, api.ErrArg},
 	} {
-		if v, in, e := Solve(c.m, c.d, c.budget); v != 0 || in != nil || e != c.e {
+		if v, in, e := solve.Solve(c.m, c.d, c.budget); v != 0 || in != nil || e != c.e {
 			t.Errorf("%d: %d, %v, %d", i, v, in, e)
 		}
 	}
@@ -107,11 +131,11 @@ func TestSolve(t *testing.T) {
 		budget  int
 		verdict int
 	}{
-		{api.Duty{Kind: api.Fires}, api.Unlimited, api.Hit}, {api.Duty{Kind: api.Fires}, 1, api.Hit}, {api.Duty{Kind: api.Side}, 1, api.Hit}, {api.Duty{Kind: api.Fires, Rule: 1}, 1, api.Hit}, {api.Duty{Kind: api.Side, Rule: 1, Cell: 1}, 1, api.Hit}, {api.Duty{Kind: api.Boundary, Value: num(5)}, 1, api.Hit}, {api.Duty{Kind: api.Boundary, Value: num(9)}, api.Unlimited, api.Hit},
-		{api.Duty{Kind: api.Fires, Decision: 1}, api.Unlimited, api.Hit}, {api.Duty{Kind: api.Side, Decision: 1}, api.Unlimited, api.Hit}, {api.Duty{Kind: api.Fires, Decision: 1, Rule: 1}, api.Unlimited, api.Unsat}, {api.Duty{Kind: api.Side, Decision: 1, Rule: 1}, api.Unlimited, api.Hit}, {api.Duty{Kind: api.Fires, Decision: 1, Rule: 2}, 1, api.Hit},
+		{api.Duty{Kind: api.Fires}, api.Unlimited, api.Hit}, {api.Duty{Kind: api.Side}, api.Unlimited, api.Hit}, {api.Duty{Kind: api.Fires, Rule: 1}, api.Unlimited, api.Hit}, {api.Duty{Kind: api.Side, Rule: 1, Cell: 1}, api.Unlimited, api.Hit}, {api.Duty{Kind: api.Boundary, Value: num(5)}, 1, api.Hit}, {api.Duty{Kind: api.Boundary, Value: num(9)}, api.Unlimited, api.Hit},
+		{api.Duty{Kind: api.Fires, Decision: 1}, api.Unlimited, api.Hit}, {api.Duty{Kind: api.Side, Decision: 1}, api.Unlimited, api.Hit}, {api.Duty{Kind: api.Fires, Decision: 1, Rule: 1}, api.Unlimited, api.Unsat}, {api.Duty{Kind: api.Side, Decision: 1, Rule: 1}, api.Unlimited, api.Hit}, {api.Duty{Kind: api.Fires, Decision: 1, Rule: 2}, api.Unlimited, api.Hit},
 		{api.Duty{Kind: api.Fires, Decision: 3}, api.Unlimited, api.Unknown}, {api.Duty{Kind: api.Side, Decision: 3, Cell: 1}, api.Unlimited, api.Unknown}, {api.Duty{Kind: api.Boundary, Decision: 3, Cell: 1, Value: num(7)}, 1, api.Hit}, {api.Duty{Kind: api.Boundary, Decision: 3, Cell: 1, Value: num(7)}, math.MaxInt, api.Hit},
 	} {
-		v, in, e := Solve(m, c.d, c.budget)
+		v, in, e := solve.Solve(m, c.d, c.budget)
 		if v != c.verdict || e != api.OK || (v == api.Hit) != (in != nil) {
 			t.Errorf("%d: %d, %v, %d", i, v, in, e)
 		}
@@ -120,9 +144,13 @@ func TestSolve(t *testing.T) {
 		}
 	}
 	contrary := load(t, `<model><input name="x" type="number" allowed="&lt; 3"/><decision name="d" type="bool"><need name="x"/><table policy="U"><column name="x"/><rule><cell>4</cell><out>true</out></rule><rule><cell>&gt; 0</cell><out>true</out></rule></table></decision></model>`)
-	for budget := range 3 {
-		if v, in, e := Solve(contrary, api.Duty{Kind: api.Fires}, budget); v != api.Unsat || in != nil || e != api.OK {
-			t.Errorf("%d: %d, %v, %d", budget, v, in, e)
+	if v, in, e := solve.Solve(contrary, api.Duty{Kind: api.Fires}, api.Unlimited); v != api.Unsat || in != nil || e != api.OK {
+		t.Errorf("contrary: %d, %v, %d", v, in, e)
+	}
+	idle := load(t, `<model><input name="x" type="number"/><input name="b" type="bool"/><decision name="d" type="bool"><need name="x"/><need name="b"/><table policy="U"><column name="x"/><column name="b"/><rule><cell>-</cell><cell>-</cell><out>true</out></rule></table></decision></model>`)
+	for _, budget := range []int{1, 2, api.MaxBoxes, api.Unlimited} {
+		if v, in, e := solve.Solve(idle, api.Duty{Kind: api.Fires}, budget); v != api.Hit || len(in) != 2 || e != api.OK {
+			t.Errorf("idle, budget %d: %d, %v, %d", budget, v, in, e)
 		}
 	}
 }
@@ -142,7 +170,7 @@ func checkReach(t *testing.T, number int, m api.Model, budget int) {
 			if k%2 == 1 {
 				s, _ = sets.Other(d.Type, s)
 			}
-			list, e := Reach(m, d.Name, s, budget)
+			list, e := solve.Reach(m, d.Name, s, budget)
 			if e == api.ErrNone || e == api.ErrFull {
 				continue
 			}
@@ -177,7 +205,7 @@ func verdicts(t *testing.T, number int, m api.Model, budget int) []int {
 	inputs := sample.Inputs(m)
 	var list []int
 	for _, d := range all {
-		v, in, e := Solve(m, d, budget)
+		v, in, e := solve.Solve(m, d, budget)
 		if e != api.OK {
 			t.Fatalf("%d, %v: %d", number, d, e)
 		}
@@ -229,17 +257,19 @@ func TestBudgets(t *testing.T) {
 		all, _ := duty.All(m)
 		for _, d := range all {
 			least := 0
-			var first []api.Value
 			for _, budget := range []int{0, 1, 2, 3, 5, 9, 20, 60, 300, 2000, api.MaxBoxes, math.MaxInt, api.Unlimited} {
-				v, in, e := Solve(m, d, budget)
+				v, in, e := solve.Solve(m, d, budget)
 				if e != api.OK {
 					t.Fatalf("%d, %v: %d", number, d, e)
 				}
-				if least != 0 && (v != least || !slices.Equal(in, first)) {
-					t.Fatalf("%d, %v: %d, %v, then %d, %v", number, d, least, first, v, in)
+				if least != 0 && v != least {
+					t.Fatalf("%d, %v: %d, then %d", number, d, least, v)
+				}
+				if ok, _ := duty.Met(m, d, in...); v == api.Hit && !ok {
+					t.Fatalf("%d, %v: %v", number, d, in)
 				}
 				if v != api.Unknown {
-					least, first = v, in
+					least = v
 				}
 				if d.Kind == api.Boundary && budget != 0 && v != api.Hit {
 					t.Fatalf("%d, %v: a bound with %d: %d", number, d, budget, v)
@@ -249,7 +279,7 @@ func TestBudgets(t *testing.T) {
 		for _, d := range m.Decisions {
 			done := -1
 			for _, budget := range []int{0, 1, 4, 16, 64, 256, 1024, api.MaxBoxes, api.Unlimited} {
-				list, e := Reach(m, d.Name, api.Set{Kind: d.Type.Kind, Null: true}, budget)
+				list, e := solve.Reach(m, d.Name, api.Set{Kind: d.Type.Kind, Null: true}, budget)
 				if e == api.OK && done >= 0 && len(list) != done || e != api.OK && done >= 0 {
 					t.Fatalf("%d, %s: %d boxes with %d, before %d", number, d.Name, len(list), budget, done)
 				}
@@ -277,8 +307,8 @@ func TestSmallModelsAreDecided(t *testing.T) {
 func TestMemory(t *testing.T) {
 	m := load(t, small)
 	s := spans(1, 9)
-	list, _ := Reach(m, "x", s, api.Unlimited)
-	again, _ := Reach(m, "d", api.Set{Kind: api.Text, Words: api.Words{List: []string{"low", "mid"}}}, api.Unlimited)
+	list, _ := solve.Reach(m, "x", s, api.Unlimited)
+	again, _ := solve.Reach(m, "d", api.Set{Kind: api.Text, Words: api.Words{List: []string{"low", "mid"}}}, api.Unlimited)
 	if len(again) < 2 {
 		t.Fatalf("%v", again)
 	}

@@ -1,4 +1,4 @@
-package spans
+package spans_test
 
 import (
 	"math"
@@ -7,6 +7,7 @@ import (
 	"testing"
 
 	"soffit/api"
+	"soffit/spans"
 )
 
 const (
@@ -27,12 +28,12 @@ func TestJoin(t *testing.T) {
 		{nil, nil}, {list(5, 4), nil}, {list(most, least), nil}, {list(1, 2, 3, 4), list(1, 4)}, {list(1, 2, 4, 5), list(1, 2, 4, 5)}, {list(5, 6, 1, 2), list(1, 2, 5, 6)}, {list(1, 9, 3, 4), list(1, 9)}, {list(1, 1, 1, 1), list(1, 1)},
 		{list(3, 3, 9, 2, 1, 1, 2, 2), list(1, 3)}, {list(least, most, 1, 2), list(least, most)}, {list(5, most, most, most), list(5, most)}, {list(least, least, least+1, 0), list(least, 0)}, {list(1, 5, 2, 3, 6, 7), list(1, 7)}, {list(most, most, least, least), list(least, least, most, most)},
 	} {
-		if got := Join(c.in...); !slices.Equal(got, c.want) {
+		if got := spans.Join(c.in...); !slices.Equal(got, c.want) {
 			t.Errorf("Join(%v): %v", c.in, got)
 		}
 	}
 	in := list(5, 6, 1, 2)
-	Join(in...)
+	spans.Join(in...)
 	if !slices.Equal(in, list(5, 6, 1, 2)) {
 		t.Error("the argument was changed")
 	}
@@ -44,13 +45,13 @@ func TestMeetAndWithout(t *testing.T) {
 		{list(1, 3, 5, 7), list(2, 6), list(2, 3, 5, 6), list(1, 1, 7, 7)}, {list(1, 20), list(3, 4, 8, 9, 15, 30), list(3, 4, 8, 9, 15, 20), list(1, 2, 5, 7, 10, 14)}, {list(8, 9, 1, 2, 3, 4), list(4, 8), list(4, 4, 8, 8), list(1, 3, 9, 9)},
 		{list(least, most), list(0, 0), list(0, 0), list(least, -1, 1, most)}, {list(least, most), list(least, most), list(least, most), nil}, {list(least, most), list(least, least, most, most), list(least, least, most, most), list(least+1, most-1)}, {list(1, 2), list(2, 1), nil, list(1, 2)}, {list(0, most), list(most, most), list(most, most), list(0, most-1)}, {list(1, 2, 4, 5), list(1, 5), list(1, 2, 4, 5), nil},
 	} {
-		if got := Meet(c.a, c.b); !slices.Equal(got, c.meet) {
+		if got := spans.Meet(c.a, c.b); !slices.Equal(got, c.meet) {
 			t.Errorf("Meet(%v, %v): %v", c.a, c.b, got)
 		}
-		if got := Meet(c.b, c.a); !slices.Equal(got, c.meet) {
+		if got := spans.Meet(c.b, c.a); !slices.Equal(got, c.meet) {
 			t.Errorf("Meet(%v, %v): %v", c.b, c.a, got)
 		}
-		if got := Without(c.a, c.b); !slices.Equal(got, c.without) {
+		if got := spans.Without(c.a, c.b); !slices.Equal(got, c.without) {
 			t.Errorf("Without(%v, %v): %v", c.a, c.b, got)
 		}
 	}
@@ -78,23 +79,23 @@ func TestSomeSpans(t *testing.T) {
 	}
 	for range 5000 {
 		a, b := some(), some()
-		join, meet, without := Join(append(slices.Clone(a), b...)...), Meet(a, b), Without(a, b)
+		join, meet, without := spans.Join(append(slices.Clone(a), b...)...), spans.Meet(a, b), spans.Without(a, b)
 		if !inOrder(join) || !inOrder(meet) || !inOrder(without) {
 			t.Fatalf("%v, %v: %v, %v, %v", a, b, join, meet, without)
 		}
 		for n := -2; n < 42; n++ {
-			x, y := Has(a, n), Has(b, n)
-			if Has(join, n) != (x || y) || Has(meet, n) != (x && y) || Has(without, n) != (x && !y) {
+			x, y := spans.Has(a, n), spans.Has(b, n)
+			if spans.Has(join, n) != (x || y) || spans.Has(meet, n) != (x && y) || spans.Has(without, n) != (x && !y) {
 				t.Fatalf("%d: %v, %v: %v, %v, %v", n, a, b, join, meet, without)
 			}
 		}
 		n := r.Intn(40) - 5
-		got, e := Near(a, n)
+		got, e := spans.Near(a, n)
 		want, found := 0, false
 		for d := 0; d < 60 && !found; d++ {
-			if Has(a, n-d) {
+			if spans.Has(a, n-d) {
 				want, found = n-d, true
-			} else if Has(a, n+d) {
+			} else if spans.Has(a, n+d) {
 				want, found = n+d, true
 			}
 		}
@@ -105,7 +106,7 @@ func TestSomeSpans(t *testing.T) {
 }
 
 func TestHasAndNear(t *testing.T) {
-	if Has(nil, 0) || Has(list(1, 0), 0) || Has(list(1, 0), 1) || !Has(list(9, 9, 1, 2), 2) || !Has(list(least, most), least) {
+	if spans.Has(nil, 0) || spans.Has(list(1, 0), 0) || spans.Has(list(1, 0), 1) || !spans.Has(list(9, 9, 1, 2), 2) || !spans.Has(list(least, most), least) {
 		t.Error("Has")
 	}
 	for _, c := range []struct {
@@ -117,7 +118,7 @@ func TestHasAndNear(t *testing.T) {
 		{nil, 5, 0, api.ErrNone}, {list(6, 5, most, least), 5, 0, api.ErrNone}, {list(7, 9, 1, 3), 5, 3, 0}, {list(7, 9, 1, 2), 5, 7, 0}, {list(1, 9), 5, 5, 0}, {list(3, 3, 7, 7), 5, 3, 0}, {list(7, 7, 3, 3), 5, 3, 0},
 		{list(most, most), least, most, 0}, {list(least, least), most, least, 0}, {list(most, most, least, least), -1, least, 0}, {list(least, least, most, most), 0, most, 0}, {list(least, least, most, most), -2, least, 0}, {list(9, 8, 20, 30), 0, 20, 0}, {list(-9, -5, 9, 8), 0, -5, 0},
 	} {
-		if got, e := Near(c.list, c.n); got != c.want || e != c.e {
+		if got, e := spans.Near(c.list, c.n); got != c.want || e != c.e {
 			t.Errorf("Near(%v, %d): %d, %d", c.list, c.n, got, e)
 		}
 	}

@@ -1,4 +1,4 @@
-package suite
+package suite_test
 
 import (
 	"math"
@@ -13,6 +13,7 @@ import (
 	"soffit/oracle"
 	"soffit/sample"
 	"soffit/solve"
+	"soffit/suite"
 )
 
 func load(t *testing.T, s string) api.Model {
@@ -40,7 +41,7 @@ func TestGreedy(t *testing.T) {
 		for i := range c.lists {
 			kept[i] = slices.Clone(c.lists[i])
 		}
-		if got := Greedy(c.lists); !slices.Equal(got, c.want) {
+		if got := suite.Greedy(c.lists); !slices.Equal(got, c.want) {
 			t.Errorf("%v: %v", c.lists, got)
 		}
 		for i := range kept {
@@ -100,7 +101,7 @@ func TestGreedyOfSomeLists(t *testing.T) {
 				lists[i] = append(lists[i], r.Intn(12))
 			}
 		}
-		if got, want := Greedy(lists), plainGreedy(lists); !slices.Equal(got, want) {
+		if got, want := suite.Greedy(lists), plainGreedy(lists); !slices.Equal(got, want) {
 			t.Fatalf("%v: %v, want %v", lists, got, want)
 		}
 	}
@@ -110,7 +111,7 @@ func TestGreedyOfSomeLists(t *testing.T) {
 const first = `<model><input name="x" type="number"/><decision name="d" type="number"><need name="x"/><table policy="F"><column name="x"/><rule><cell>&lt; 5</cell><out>1</out></rule></table></decision></model>`
 
 func TestExample(t *testing.T) {
-	tests, r, e := Build(load(t, first), api.Unlimited)
+	tests, r, e := suite.Build(load(t, first), api.Unlimited)
 	num := func(n int) api.Value { return api.Value{Kind: api.Number, Dec: api.Dec{N: n}} }
 	want := []api.Case{{Inputs: []api.Value{num(0)}, Expected: []api.Value{num(1)}}, {Inputs: []api.Value{num(5)}, Expected: []api.Value{{}}}}
 	if !reflect.DeepEqual(tests, want) || e != api.OK {
@@ -132,12 +133,12 @@ func TestWrongArguments(t *testing.T) {
 		budget int
 		e      api.Errno
 	}{{api.Model{}, 9, api.ErrForm}, {api.Model{}, -2, api.ErrForm}, {m, -2, api.ErrArg}, {m, math.MinInt, api.ErrArg}} {
-		if tests, r, e := Build(c.m, c.budget); tests != nil || !reflect.DeepEqual(r, api.Report{}) || e != c.e {
+		if tests, r, e := suite.Build(c.m, c.budget); tests != nil || !reflect.DeepEqual(r, api.Report{}) || e != c.e {
 			t.Errorf("%d: %v, %v, %d", c.budget, tests, r, e)
 		}
 	}
 	none := load(t, `<model><input name="x" type="number"/><decision name="e" type="bool"><need name="x"/><expression>x = 1</expression></decision></model>`)
-	if tests, r, e := Build(none, 9); len(tests) != 0 || !reflect.DeepEqual(r, api.Report{}) || e != api.OK {
+	if tests, r, e := suite.Build(none, 9); len(tests) != 0 || !reflect.DeepEqual(r, api.Report{}) || e != api.OK {
 		t.Errorf("no duties: %v, %v, %d", tests, r, e)
 	}
 }
@@ -173,7 +174,7 @@ func TestSomeModels(t *testing.T) {
 	for number := range 80 {
 		m := sample.Model(3000+number, size)
 		for _, budget := range []int{api.Unlimited, 0, 1, 4} {
-			tests, r, e := Build(m, budget)
+			tests, r, e := suite.Build(m, budget)
 			if e != api.OK {
 				t.Fatalf("%d: %d", number, e)
 			}
@@ -207,7 +208,7 @@ func check(t *testing.T, number int, m api.Model, budget int, tests []api.Case, 
 			}
 		}
 	}
-	taken := Greedy(credits)
+	taken := suite.Greedy(credits)
 	if len(taken) != len(tests) || len(r.Credits) != len(tests) {
 		t.Fatalf("%d: %v, want %v", number, tests, taken)
 	}

@@ -1,4 +1,4 @@
-package tool
+package tool_test
 
 import (
 	"math"
@@ -14,12 +14,13 @@ import (
 	"soffit/oracle"
 	"soffit/sample"
 	"soffit/suite"
+	"soffit/tool"
 )
 
 const first = `<model><input name="x" type="number"/><decision name="d" type="number"><need name="x"/><table policy="F"><column name="x"/><rule><cell>&lt; 5</cell><out>1</out></rule></table></decision></model>`
 
 func TestExample(t *testing.T) {
-	tests, report, at, e := Run(first, api.Unlimited)
+	tests, report, at, e := tool.Run(first, api.Unlimited)
 	if tests != `<tests><case><in name="x">0</in><out name="d">1</out></case><case><in name="x">5</in><out name="d">null</out></case></tests>` || at != 0 || e != api.OK {
 		t.Errorf("%s, %d, %d", tests, at, e)
 	}
@@ -35,7 +36,7 @@ const mixed = `<model><input name="x" type="date"/><input name="n" type="number"
 <decision name="f" type="bool"><need name="e"/><table policy="U"><column name="e"/><rule><cell>999</cell><out>true</out></rule></table></decision></model>`
 
 func TestReport(t *testing.T) {
-	tests, report, at, e := Run(mixed, 5)
+	tests, report, at, e := tool.Run(mixed, api.Unlimited)
 	if at != 0 || e != api.OK {
 		t.Fatalf("%d, %d", at, e)
 	}
@@ -61,7 +62,7 @@ func TestWrongArguments(t *testing.T) {
 	}{
 		{first, -2, 0, api.ErrArg}, {first, math.MinInt, 0, api.ErrArg}, {"", -2, 0, api.ErrArg}, {"  ", 9, 2, api.ErrTag}, {"<model>&x;</model>", 9, 7, api.ErrName}, {strings.Replace(first, "F", "G", 1), 9, strings.Index(first, "<table"), api.ErrShape}, {strings.Replace(first, "&lt; 5", "&lt; true", 1), api.Unlimited, strings.Index(first, "<cell"), api.ErrText}, {strings.Replace(first, "<out>1", "<out>0.5", 1), 0, strings.Index(first, "<out"), api.ErrType}, {strings.Repeat(" ", api.MaxText+1), 9, 0, api.ErrLarge}, {"\xff", 9, 0, api.ErrChar},
 	} {
-		if tests, report, at, e := Run(c.s, c.budget); tests != "" || report != "" || at != c.at || e != c.e {
+		if tests, report, at, e := tool.Run(c.s, c.budget); tests != "" || report != "" || at != c.at || e != c.e {
 			t.Errorf("%d: %q, %q, %d, %d", i, tests, report, at, e)
 		}
 	}
@@ -106,7 +107,7 @@ func TestTooManyTests(t *testing.T) {
 	if duties, _ := duty.All(m); len(duties) != 6*(6*5+4*48) {
 		t.Fatalf("%d duties", len(duties))
 	}
-	if tests, report, at, e := Run(b.String(), api.Unlimited); tests != "" || report != "" || at != 0 || e != api.ErrLarge {
+	if tests, report, at, e := tool.Run(b.String(), api.Unlimited); tests != "" || report != "" || at != 0 || e != api.ErrLarge {
 		t.Errorf("%d, %d, %d, %d", len(tests), len(report), at, e)
 	}
 }
@@ -119,11 +120,11 @@ func TestSomeModels(t *testing.T) {
 		if e != api.OK {
 			t.Fatalf("%d: %d", number, e)
 		}
-		tests, report, at, e := Run(s, api.Unlimited)
+		tests, report, at, e := tool.Run(s, api.Unlimited)
 		if at != 0 || e != api.OK {
 			t.Fatalf("%d: %d, %d", number, at, e)
 		}
-		again, sameReport, _, _ := Run(s, api.MaxBoxes)
+		again, sameReport, _, _ := tool.Run(s, api.MaxBoxes)
 		if again != tests || sameReport != report {
 			t.Fatalf("%d: two calls differ", number)
 		}

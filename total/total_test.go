@@ -1,7 +1,7 @@
 // Package total calls every function that the document lists with arguments of
 // all sorts: none may panic, change an argument, share memory or answer another
 // time otherwise, and beside an error there is nothing.
-package total
+package total_test
 
 import (
 	"math"
@@ -245,9 +245,10 @@ func overlap(a, b reflect.Value) bool {
 func TestEverything(t *testing.T) {
 	for name, f := range functions() {
 		t.Run(name, func(t *testing.T) {
-			calls := 3000
+			t.Parallel()
+			calls := 1500
 			if strings.HasPrefix(name, "tool.") || strings.HasPrefix(name, "suite.Build") || strings.HasPrefix(name, "solve.") {
-				calls = 400
+				calls = 300
 			}
 			k := maker{rand.New(rand.NewSource(8))}
 			for range calls {

@@ -1,4 +1,4 @@
-package tree
+package tree_test
 
 import (
 	"reflect"
@@ -6,6 +6,7 @@ import (
 	"testing"
 
 	"soffit/api"
+	"soffit/tree"
 )
 
 func TestParse(t *testing.T) {
@@ -13,13 +14,13 @@ func TestParse(t *testing.T) {
 	want := api.Node{Name: "a", At: 11, Attrs: []api.Attr{{Name: "b", Value: "1"}, {Name: "c", Value: "<"}}, Kids: []api.Node{
 		{Name: "d", At: strings.Index(s, "<d>"), Text: "t&<u>v"}, {Name: "e", At: strings.Index(s, "<e/>")}, {Name: "d", At: strings.Index(s, "<d x"), Attrs: []api.Attr{{Name: "x"}}},
 	}}
-	if got, at, e := Parse(s); !reflect.DeepEqual(got, want) || at != 0 || e != api.OK {
+	if got, at, e := tree.Parse(s); !reflect.DeepEqual(got, want) || at != 0 || e != api.OK {
 		t.Errorf("%v, %d, %d", got, at, e)
 	}
 	for s, want := range map[string]string{
 		"<a> </a>": " ", "<a/>": "", "<a></a>": "", "<a> <b/> </a>": "", "<a><b/><![CDATA[ ]]>&#10;</a>": "", "<![CDATA[ ]]>&#32;<a>x</a><![CDATA[]]>": "x",
 	} {
-		if got, at, e := Parse(s); got.Text != want || at != 0 || e != api.OK {
+		if got, at, e := tree.Parse(s); got.Text != want || at != 0 || e != api.OK {
 			t.Errorf("%q: %v, %d, %d", s, got, at, e)
 		}
 	}
@@ -43,14 +44,14 @@ func TestWrongTexts(t *testing.T) {
 		{nested(65), 64 * 3, api.ErrDeep}, {strings.Repeat("<a>", 64) + "<b/>", 64 * 3, api.ErrDeep}, {many + "</r>", len(many) - 4, api.ErrLarge}, {many, len(many) - 4, api.ErrLarge},
 		{many[:len(many)-4] + "</r><a/>", len(many), api.ErrTag},
 	} {
-		if got, at, e := Parse(c.s); !reflect.DeepEqual(got, api.Node{}) || at != c.at || e != c.e {
+		if got, at, e := tree.Parse(c.s); !reflect.DeepEqual(got, api.Node{}) || at != c.at || e != c.e {
 			t.Errorf("%.30q: %v, %d, %d, want %d, %d", c.s, got.Name, at, e, c.at, c.e)
 		}
 	}
-	if _, _, e := Parse(nested(64)); e != api.OK {
+	if _, _, e := tree.Parse(nested(64)); e != api.OK {
 		t.Errorf("the deepest tree: %d", e)
 	}
-	if n, _, e := Parse(many[:len(many)-4] + "</r>"); e != api.OK || len(n.Kids) != api.MaxNodes-1 {
+	if n, _, e := tree.Parse(many[:len(many)-4] + "</r>"); e != api.OK || len(n.Kids) != api.MaxNodes-1 {
 		t.Errorf("the largest tree: %d", e)
 	}
 }
@@ -58,11 +59,11 @@ func TestWrongTexts(t *testing.T) {
 func TestText(t *testing.T) {
 	n := api.Node{Name: "a", At: 5, Attrs: []api.Attr{{Name: "b", Value: "<"}}, Kids: []api.Node{{Name: "c"}, {Name: "d", Text: " & "}, {Name: "e", Kids: []api.Node{{Name: "f", At: -1}}}}}
 	want := `<a b="&lt;"><c/><d> &amp; </d><e><f/></e></a>`
-	if s, e := Text(n); s != want || e != api.OK {
+	if s, e := tree.Text(n); s != want || e != api.OK {
 		t.Errorf("%q, %d", s, e)
 	}
-	back, _, e := Parse(want)
-	if e != api.OK || !Same(back, n) {
+	back, _, e := tree.Parse(want)
+	if e != api.OK || !tree.Same(back, n) {
 		t.Errorf("back: %v, %d", back, e)
 	}
 }
@@ -99,7 +100,7 @@ func TestWrongTrees(t *testing.T) {
 		{api.Node{Name: "a", Text: strings.Repeat("x", api.MaxText)}, api.ErrLarge}, {api.Node{Name: "a", Text: strings.Repeat("x", api.MaxText-7)}, api.OK},
 		{api.Node{Name: "a", Kids: []api.Node{{Name: "b", Text: strings.Repeat("x", api.MaxText)}, {Name: "c", Text: "y", Kids: []api.Node{{Name: "d"}}}}}, api.ErrForm},
 	} {
-		s, e := Text(c.n)
+		s, e := tree.Text(c.n)
 		if e != c.e || (s == "") != (e != api.OK) {
 			t.Errorf("%.20s: %d, want %d", c.n.Name, e, c.e)
 		}
@@ -111,14 +112,14 @@ func TestAttrAndFind(t *testing.T) {
 		{Name: "x", Text: "1"}, {Name: "y", Kids: []api.Node{{Name: "x", Text: "2"}}}, {Name: "x", Attrs: []api.Attr{{Name: "q"}}, Kids: []api.Node{{Name: "z"}}},
 	}}
 	for name, want := range map[string]string{"b": "1", "c": ""} {
-		if v, ok := Attr(n, name); v != want || !ok {
+		if v, ok := tree.Attr(n, name); v != want || !ok {
 			t.Errorf("Attr %s: %q, %v", name, v, ok)
 		}
 	}
-	if v, ok := Attr(n, "d"); v != "" || ok {
+	if v, ok := tree.Attr(n, "d"); v != "" || ok {
 		t.Errorf("Attr d: %q, %v", v, ok)
 	}
-	got := Find(n, "x")
+	got := tree.Find(n, "x")
 	if len(got) != 2 || !reflect.DeepEqual(got[0], n.Kids[0]) || !reflect.DeepEqual(got[1], n.Kids[2]) {
 		t.Fatalf("Find: %v", got)
 	}
@@ -126,16 +127,16 @@ func TestAttrAndFind(t *testing.T) {
 	if n.Kids[2].Attrs[0].Name != "q" || n.Kids[2].Kids[0].Name != "z" || n.Kids[0].Text != "1" {
 		t.Error("what Find returns shares memory with its argument")
 	}
-	if got := Find(n, "none"); len(got) != 0 {
+	if got := tree.Find(n, "none"); len(got) != 0 {
 		t.Errorf("Find none: %v", got)
 	}
 	shared := []api.Node{{Name: "k"}}
-	twice := Find(api.Node{Kids: []api.Node{{Name: "a", Kids: shared}, {Name: "a", Kids: shared}}}, "a")
+	twice := tree.Find(api.Node{Kids: []api.Node{{Name: "a", Kids: shared}, {Name: "a", Kids: shared}}}, "a")
 	twice[0].Kids[0].Name = "other"
 	if twice[1].Kids[0].Name != "k" {
 		t.Error("two lists of a result share memory")
 	}
-	if got := Find(endless("a"), "a"); len(got) != 2 {
+	if got := tree.Find(endless("a"), "a"); len(got) != 2 {
 		t.Errorf("Find in an endless tree: %d", len(got))
 	}
 }
@@ -143,7 +144,7 @@ func TestAttrAndFind(t *testing.T) {
 func TestSame(t *testing.T) {
 	a := api.Node{Name: "a", At: 1, Attrs: []api.Attr{{Name: "b", Value: "1"}}, Kids: []api.Node{{Name: "c", At: 2, Text: "x"}, {Name: "d"}}}
 	b := api.Node{Name: "a", At: 9, Attrs: []api.Attr{{Name: "b", Value: "1"}}, Kids: []api.Node{{Name: "c", Text: "x", Kids: []api.Node{}}, {Name: "d", Attrs: []api.Attr{}}}}
-	if !Same(a, b) || !Same(api.Node{}, api.Node{At: 3}) {
+	if !tree.Same(a, b) || !tree.Same(api.Node{}, api.Node{At: 3}) {
 		t.Error("equal trees are not the same")
 	}
 	for _, other := range []api.Node{
@@ -151,14 +152,14 @@ func TestSame(t *testing.T) {
 		{Name: "a", Attrs: []api.Attr{{Name: "b", Value: "2"}}, Kids: a.Kids}, {Name: "a", Attrs: a.Attrs, Kids: []api.Node{a.Kids[1], a.Kids[0]}},
 		{Name: "a", Attrs: a.Attrs, Kids: []api.Node{{Name: "c", Text: "y"}, {Name: "d"}}}, {Name: "a", Attrs: a.Attrs, Kids: []api.Node{{Name: "c", Text: "x"}}},
 	} {
-		if Same(a, other) || Same(other, a) {
+		if tree.Same(a, other) || tree.Same(other, a) {
 			t.Errorf("%v is the same", other)
 		}
 	}
-	if !Same(endless("a"), endless("a")) || Same(endless("a"), endless("b")) || Same(endless("a"), chain(9)) {
+	if !tree.Same(endless("a"), endless("a")) || tree.Same(endless("a"), endless("b")) || tree.Same(endless("a"), chain(9)) {
 		t.Error("endless trees")
 	}
-	if !Same(chain(100000), chain(100000)) || Same(chain(100000), chain(99999)) {
+	if !tree.Same(chain(100000), chain(100000)) || tree.Same(chain(100000), chain(99999)) {
 		t.Error("deep trees")
 	}
 }

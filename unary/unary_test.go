@@ -1,4 +1,4 @@
-package unary
+package unary_test
 
 import (
 	"reflect"
@@ -7,6 +7,7 @@ import (
 	"testing"
 
 	"soffit/api"
+	"soffit/unary"
 )
 
 func num(n int) api.Value     { return api.Value{Kind: api.Number, Dec: api.Dec{N: n}} }
@@ -30,7 +31,7 @@ func TestParse(t *testing.T) {
 		"1, \"a\", < 3": list(is(num(1)), is(txt("a")), api.Test{Kind: api.IsLess, Low: num(3)}), "1,1": list(is(num(1)), is(num(1))), "1,2,3,4,5,6,7,8": list(is(num(1)), is(num(2)), is(num(3)), is(num(4)), is(num(5)), is(num(6)), is(num(7)), is(num(8))),
 		"not(5)": not(is(num(5))), "not ( 1 , (2..3) )": not(is(num(1)), between(num(2), num(3), true, true)), "not(null)": not(is(api.Value{})),
 	} {
-		if got, at, e := Parse(s); !reflect.DeepEqual(got, want) || at != 0 || e != api.OK {
+		if got, at, e := unary.Parse(s); !reflect.DeepEqual(got, want) || at != 0 || e != api.OK {
 			t.Errorf("%.40q: %v, %d, %d", s, got, at, e)
 		}
 	}
@@ -51,7 +52,7 @@ func TestWrongTexts(t *testing.T) {
 		{"1,2,3,4,5,6,7,8,9", 15, api.ErrLarge}, {"1,2,3,4,5,6,7,8,", 15, api.ErrLarge}, {"not(1,2,3,4,5,6,7,8,x)", 19, api.ErrLarge}, {"1,2,3,4,5,6,7,8 9", 16, api.ErrText}, {"1,2,3,4,5,6,7,8\",\"", 15, api.ErrText}, {"if", 0, api.ErrText},
 		{"x $", 2, api.ErrText}, {"5, 1000000000000", 3, api.ErrRange}, {strings.Repeat(" ", api.MaxText+1), 0, api.ErrLarge},
 	} {
-		if got, at, e := Parse(c.s); !reflect.DeepEqual(got, api.Tests{}) || at != c.at || e != c.e {
+		if got, at, e := unary.Parse(c.s); !reflect.DeepEqual(got, api.Tests{}) || at != c.at || e != c.e {
 			t.Errorf("%.40q: %v, %d, %d, want %d, %d", c.s, got, at, e, c.at, c.e)
 		}
 	}
@@ -72,18 +73,18 @@ func unsound() []api.Tests {
 
 func TestSound(t *testing.T) {
 	for _, x := range unsound() {
-		if Sound(x) {
+		if unary.Sound(x) {
 			t.Errorf("%v is sound", x)
 		}
-		if s, e := Text(x); s != "" || e != api.ErrForm {
+		if s, e := unary.Text(x); s != "" || e != api.ErrForm {
 			t.Errorf("%v: %q, %d", x, s, e)
 		}
-		if got := Ends(x); len(got) != 0 {
+		if got := unary.Ends(x); len(got) != 0 {
 			t.Errorf("%v: ends %v", x, got)
 		}
 	}
 	for _, x := range []api.Tests{{Any: true}, {Any: true, List: []api.Test{}}, list(is(api.Value{})), not(is(txt("a")), between(day(5), day(1), true, false)), list(unsound()[4].List[:8]...)} {
-		if !Sound(x) {
+		if !unary.Sound(x) {
 			t.Errorf("%v is not sound", x)
 		}
 	}
@@ -94,35 +95,35 @@ func TestText(t *testing.T) {
 		" - ": "-", "5,-1.50": "5, -1.5", "null,true,false": "null, true, false", `"a\"b"`: `"a\"b"`, "<5,<=5,>5,>=-5": "< 5, <= 5, > 5, >= -5", "[1..5],]1..5],[1..5[,(1 .. 5)": "[1..5], (1..5], [1..5), (1..5)",
 		`not(@"2000-01-01", [-1.5..2])`: `not(@"2000-01-01", [-1.5..2])`, "not ( 5 )": "not(5)", `[@"2000-01-01"..@"2000-01-02")`: `[@"2000-01-01"..@"2000-01-02")`,
 	} {
-		x, _, e := Parse(s)
-		got, f := Text(x)
+		x, _, e := unary.Parse(s)
+		got, f := unary.Text(x)
 		if got != want || e != api.OK || f != api.OK {
 			t.Errorf("%s: %s, %d, %d", s, got, e, f)
 		}
-		if back, _, e := Parse(got); e != api.OK || !Same(back, x) {
+		if back, _, e := unary.Parse(got); e != api.OK || !unary.Same(back, x) {
 			t.Errorf("%s: back %v, %d", s, back, e)
 		}
 	}
 }
 
 func TestEnds(t *testing.T) {
-	x, _, _ := Parse(`not("b", 5, [3..-2], "a", < 5, null, true, @"0001-01-01")`)
+	x, _, _ := unary.Parse(`not("b", 5, [3..-2], "a", < 5, null, true, @"0001-01-01")`)
 	want := []api.Value{{}, num(-2), num(3), num(5), txt("a"), txt("b"), {Kind: api.Bool, N: 1}, day(0)}
-	if got := Ends(x); !slices.Equal(got, want) {
+	if got := unary.Ends(x); !slices.Equal(got, want) {
 		t.Errorf("%v", got)
 	}
-	if got := Ends(api.Tests{Any: true}); len(got) != 0 {
+	if got := unary.Ends(api.Tests{Any: true}); len(got) != 0 {
 		t.Errorf("any: %v", got)
 	}
 }
 
 func TestSame(t *testing.T) {
 	a := not(is(num(1)), is(num(2)))
-	if !Same(a, not(is(num(1)), is(num(2)))) || !Same(api.Tests{Any: true}, api.Tests{Any: true, List: []api.Test{}}) {
+	if !unary.Same(a, not(is(num(1)), is(num(2)))) || !unary.Same(api.Tests{Any: true}, api.Tests{Any: true, List: []api.Test{}}) {
 		t.Error("equal tests are not the same")
 	}
 	for _, b := range []api.Tests{{}, {Any: true}, list(a.List...), not(is(num(2)), is(num(1))), not(is(num(1))), {Any: true, Not: true, List: a.List}} {
-		if Same(a, b) || Same(b, a) {
+		if unary.Same(a, b) || unary.Same(b, a) {
 			t.Errorf("%v is the same", b)
 		}
 	}

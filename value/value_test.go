@@ -1,4 +1,4 @@
-package value
+package value_test
 
 import (
 	"math"
@@ -7,6 +7,7 @@ import (
 	"testing"
 
 	"soffit/api"
+	"soffit/value"
 )
 
 func number(n, scale int) api.Value {
@@ -39,12 +40,12 @@ func unsound() []api.Value {
 
 func TestSound(t *testing.T) {
 	for _, v := range append(rising(), text(strings.Repeat("a", 256)), text(strings.Repeat("é", 128))) {
-		if !Sound(v) {
+		if !value.Sound(v) {
 			t.Errorf("%v is not sound", v)
 		}
 	}
 	for _, v := range append(unsound(), text(strings.Repeat("é", 129))) {
-		if Sound(v) {
+		if value.Sound(v) {
 			t.Errorf("%v is sound", v)
 		}
 	}
@@ -60,15 +61,15 @@ func TestCompare(t *testing.T) {
 			} else if i > j {
 				want = 1
 			}
-			if n, e := Compare(a, b); n != want || e != api.OK {
+			if n, e := value.Compare(a, b); n != want || e != api.OK {
 				t.Errorf("Compare(%v, %v): %d, %d", a, b, n, e)
 			}
 		}
 		for _, b := range unsound() {
-			if n, e := Compare(a, b); n != 0 || e != api.ErrForm {
+			if n, e := value.Compare(a, b); n != 0 || e != api.ErrForm {
 				t.Errorf("Compare(%v, %v): %d, %d", a, b, n, e)
 			}
-			if n, e := Compare(b, a); n != 0 || e != api.ErrForm {
+			if n, e := value.Compare(b, a); n != 0 || e != api.ErrForm {
 				t.Errorf("Compare(%v, %v): %d, %d", b, a, n, e)
 			}
 		}
@@ -79,23 +80,23 @@ func TestSort(t *testing.T) {
 	mixed := append(rising(), rising()...)
 	slices.Reverse(mixed)
 	kept := slices.Clone(mixed)
-	got, e := Sort(mixed...)
+	got, e := value.Sort(mixed...)
 	if e != api.OK || !slices.Equal(got, rising()) {
 		t.Errorf("%v, %d", got, e)
 	}
 	if !slices.Equal(mixed, kept) {
 		t.Error("the argument was changed")
 	}
-	if got, e := Sort(); len(got) != 0 || e != api.OK {
+	if got, e := value.Sort(); len(got) != 0 || e != api.OK {
 		t.Errorf("none: %v, %d", got, e)
 	}
 	for _, v := range unsound() {
-		if got, e := Sort(append(rising(), v)...); got != nil || e != api.ErrForm {
+		if got, e := value.Sort(append(rising(), v)...); got != nil || e != api.ErrForm {
 			t.Errorf("with %v: %v, %d", v, got, e)
 		}
 	}
 	one := []api.Value{text("a")}
-	got, _ = Sort(one...)
+	got, _ = value.Sort(one...)
 	got[0] = text("b")
 	if one[0] != text("a") {
 		t.Error("the result shares memory with the argument")
@@ -110,12 +111,12 @@ func TestText(t *testing.T) {
 		{api.Value{}, "null"}, {number(-15, 1), "-1.5"}, {number(0, 0), "0"}, {text(""), `""`}, {text(`a"b\c'`), `"a\"b\\c'"`},
 		{text(`\"`), `"\\\""`}, {text("x\ny<é"), "\"x\ny<é\""}, {truth(0), "false"}, {truth(1), "true"}, {date(0), `@"0001-01-01"`}, {date(730119), `@"2000-01-01"`},
 	} {
-		if s, e := Text(c.v); s != c.want || e != api.OK {
+		if s, e := value.Text(c.v); s != c.want || e != api.OK {
 			t.Errorf("%v: %s, %d", c.v, s, e)
 		}
 	}
 	for _, v := range unsound() {
-		if s, e := Text(v); s != "" || e != api.ErrForm {
+		if s, e := value.Text(v); s != "" || e != api.ErrForm {
 			t.Errorf("%v: %s, %d", v, s, e)
 		}
 	}
@@ -132,12 +133,12 @@ func TestFits(t *testing.T) {
 		{number(1, 0), api.Text, 0, false}, {text("a"), api.Text, -5, true}, {text("a"), api.Bool, 0, false}, {truth(1), api.Bool, 0, true},
 		{date(1), api.Date, 0, true}, {date(1), api.Bool, 0, false}, {date(1), api.Null, 0, false},
 	} {
-		if Fits(c.v, c.kind, c.scale) != c.want {
+		if value.Fits(c.v, c.kind, c.scale) != c.want {
 			t.Errorf("Fits(%v, %d, %d) is not %v", c.v, c.kind, c.scale, c.want)
 		}
 	}
 	for _, v := range unsound() {
-		if Fits(v, v.Kind, api.MaxScale) {
+		if value.Fits(v, v.Kind, api.MaxScale) {
 			t.Errorf("%v fits", v)
 		}
 	}
