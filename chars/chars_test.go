@@ -50,7 +50,7 @@ func TestEveryCharacter(t *testing.T) {
 
 func TestName(t *testing.T) {
 	for s, want := range map[string]bool{
-		"a": true, "Z9_": true, "_": true, "_0": true, "": false, "0a": false, "a-b": false, "a b": false, "é": false, "a.": false,
+		"a": true, "Z9_": true, "z": true, "A": true, "mazAZ09": true, "_": true, "_0": true, "": false, "0a": false, "a-b": false, "a b": false, "é": false, "a.": false,
 		"aé": false, "a\xff": false, "@": false, "[": false, "`": false, "{": false, "a/": false, "a:": false,
 		strings.Repeat("a", 32): true, strings.Repeat("a", 33): false,
 	} {
@@ -78,7 +78,7 @@ func TestEscape(t *testing.T) {
 func TestUnescape(t *testing.T) {
 	for s, want := range map[string]string{
 		"": "", "a>b\"'": "a>b\"'", "&amp;lt;": "&lt;", "&lt;&gt;&quot;&apos;&amp;": "<>\"'&", "&#65;&#x41;&#x0000004a;&#00000066;": "AAJB",
-		"&#9;&#10;&#13;": "\t\n\r", "&#xFFFD;&#xfffd;": "\ufffd\ufffd", "\ufffd": "\ufffd", "&#x10FFFF;": "\U0010ffff", "é&#233;": "éé",
+		"&#9;&#10;&#13;": "\t\n\r", "&#xAF;&#xaf;&#xFA;&#xfa;&#x90;": "¯¯úú\u0090", "&#xFFFD;&#xfffd;": "\ufffd\ufffd", "\ufffd": "\ufffd", "&#x10FFFF;": "\U0010ffff", "é&#233;": "éé",
 	} {
 		if got, at, e := chars.Unescape(s); got != want || at != 0 || e != api.OK {
 			t.Errorf("Unescape(%q): %q, %d, %d", s, got, at, e)

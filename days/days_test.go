@@ -78,7 +78,7 @@ func TestRanges(t *testing.T) {
 
 func TestParseErrors(t *testing.T) {
 	for s, want := range map[string]api.Errno{
-		"": api.ErrText, "2000-1-1": api.ErrText, "2000-01-1": api.ErrText, "2000/01/01": api.ErrText, "200-001-01": api.ErrText,
+		"": api.ErrText, "2000-1-1": api.ErrText, "2000-01-1": api.ErrText, "2000/01/01": api.ErrText, "2000-01/01": api.ErrText, "2000/01-01": api.ErrText, "2000-01-010": api.ErrText, "200-001-01": api.ErrText,
 		"02000-01-01": api.ErrText, "2000-01-011": api.ErrText, " 2000-01-01": api.ErrText, "2000-01-0x": api.ErrText,
 		"-200-01-01": api.ErrText, "2000-0a-01": api.ErrText, "20 0-01-01": api.ErrText, "2000-01-01\n": api.ErrText, "2000-+1-01": api.ErrText,
 		"0000-01-01": api.ErrRange, "2000-00-01": api.ErrRange, "2000-13-01": api.ErrRange, "2023-02-29": api.ErrRange, "2000-01-00": api.ErrRange,

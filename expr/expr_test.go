@@ -135,6 +135,23 @@ func TestText(t *testing.T) {
 	}
 }
 
+func TestGreatestText(t *testing.T) {
+	text := func(n int) api.Expr { return val(api.Value{Kind: api.Text, Text: strings.Repeat("a", n)}) }
+	size := func(x api.Expr) int { s, _ := expr.Text(x); return len(s) }
+	x := of(api.OpAdd, tower(6, text(256)), of(api.OpAdd, tower(6, text(256)), tower(6, text(200))))
+	x = of(api.OpAdd, x, tower(5, text(241)))
+	for size(x)+3+2+256 <= api.MaxText {
+		x = of(api.OpAdd, x, text(min(256, api.MaxText-size(x)-3-2-2)))
+	}
+	last := api.MaxText - size(x) - len("() + ") - len(`""`)
+	if got := of(api.OpAdd, x, text(last)); size(got) != api.MaxText {
+		t.Errorf("the greatest text: %d of %d", size(got), last)
+	}
+	if s, e := expr.Text(of(api.OpAdd, x, text(last+1))); s != "" || e != api.ErrLarge {
+		t.Errorf("one byte too many: %d, %d", len(s), e)
+	}
+}
+
 // tower returns a sum of two to the power of n parts.
 func tower(n int, x api.Expr) api.Expr {
 	for range n {
@@ -150,7 +167,7 @@ func unsound() []api.Expr {
 	endless := api.Expr{Op: api.OpAdd, Kids: kids}
 	kids[0].Kids = kids
 	return []api.Expr{
-		{}, {Op: 18}, {Op: -1}, num(-1), val(api.Value{Kind: 9}), {Op: api.OpValue, Name: "a"}, {Op: api.OpValue, Kids: []api.Expr{num(1)}}, name("if"), name(""), name("1"),
+		{}, {Op: 18}, {Op: -1}, of(0, num(1), num(2)), of(18, num(1), num(2)), of(-1, num(1), num(2)), of(18, num(1)), of(0, num(1)), num(-1), val(api.Value{Kind: 9}), {Op: api.OpValue, Name: "a"}, {Op: api.OpValue, Kids: []api.Expr{num(1)}}, name("if"), name(""), name("1"),
 		{Op: api.OpName, Name: "a", Value: api.Value{Kind: api.Bool}}, {Op: api.OpName, Name: "a", Kids: []api.Expr{num(1)}}, of(api.OpNeg), of(api.OpNeg, num(1), num(2)), of(api.OpNot), of(api.OpAdd, num(1)), of(api.OpAdd, num(1), num(2), num(3)),
 		of(api.OpIf, num(1), num(2)), of(api.OpOr, num(1), api.Expr{}), {Op: api.OpNeg, Name: "a", Kids: []api.Expr{num(1)}}, {Op: api.OpNot, Value: api.Value{N: 1}, Kids: []api.Expr{num(1)}},
 		negs(64, num(1)), tower(12, num(1)), tower(40, num(1)), endless,

@@ -27,7 +27,7 @@ func TestTokens(t *testing.T) {
 		{"1..5", []api.Token{num(0, 1, 0), sig(1, ".."), num(3, 5, 0)}}, {"1.5..2.5", []api.Token{num(0, 15, 1), sig(3, ".."), num(5, 25, 1)}},
 		{`"a\"b\\" "" "é<"`, []api.Token{str(0, `a"b\`), str(9, ""), str(12, "é<")}}, {"\"a\n\"", []api.Token{str(0, "a\n")}},
 		{`@"2000-01-01"x`, []api.Token{{Kind: api.TDate, N: 730119}, nam(13, "x")}},
-		{"if _a9 notx", []api.Token{nam(0, "if"), nam(3, "_a9"), nam(7, "notx")}},
+		{"azAZ09 z A Z a", []api.Token{nam(0, "azAZ09"), nam(7, "z"), nam(9, "A"), nam(11, "Z"), nam(13, "a")}}, {"if _a9 notx", []api.Token{nam(0, "if"), nam(3, "_a9"), nam(7, "notx")}},
 		{"..!=<=>=+-*/=<>()[],", []api.Token{sig(0, ".."), sig(2, "!="), sig(4, "<="), sig(6, ">="), sig(8, "+"), sig(9, "-"), sig(10, "*"), sig(11, "/"), sig(12, "="), sig(13, "<"), sig(14, ">"), sig(15, "("), sig(16, ")"), sig(17, "["), sig(18, "]"), sig(19, ",")}},
 		{"<==>", []api.Token{sig(0, "<="), sig(2, "="), sig(3, ">")}}, {"=>", []api.Token{sig(0, "="), sig(1, ">")}},
 		{"--1", []api.Token{sig(0, "-"), sig(1, "-"), num(2, 1, 0)}}, {"0 0", []api.Token{num(0, 0, 0), num(2, 0, 0)}},

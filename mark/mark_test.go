@@ -16,6 +16,7 @@ func TestMarks(t *testing.T) {
 	}{
 		{"", nil},
 		{"<a>", []api.Mark{{Kind: api.Open, Name: "a"}}},
+		{"<azAZ09_ z=\"\" A=\"\" Z9=\"\">", []api.Mark{{Kind: api.Open, Name: "azAZ09_", Attrs: []api.Attr{{Name: "z"}, {Name: "A"}, {Name: "Z9"}}}}},
 		{"<a \t\r\n>", []api.Mark{{Kind: api.Open, Name: "a"}}},
 		{"</a>", []api.Mark{{Kind: api.Close, Name: "a"}}},
 		{"</a \n>", []api.Mark{{Kind: api.Close, Name: "a"}}},
@@ -54,7 +55,7 @@ func TestWrongMarks(t *testing.T) {
 		{"<![CDATA[ ]]", 0, api.ErrTag}, {"<![CDATA ]]>", 0, api.ErrTag}, {"<![cdata[]]>", 0, api.ErrTag},
 		{"a\x01", 1, api.ErrChar}, {"a\xff<", 1, api.ErrChar}, {"a&b", 1, api.ErrName}, {"<a>x&lt;&y;</a>", 8, api.ErrName},
 		{`<a b="x<y">`, 7, api.ErrChar}, {`<a b="&x;">`, 6, api.ErrName}, {"<a b=\"é\x02\">", 8, api.ErrChar},
-		{"<![CDATA[é\x02]]>", 11, api.ErrChar}, {"<!--a\x02-->", 5, api.ErrChar}, {"<!--\x02", 0, api.ErrTag}, {"<![CDATA[\x02", 0, api.ErrTag}, {"<!--\x02--x", 0, api.ErrTag},
+		{"<![CDATA[é\x02]]>", 11, api.ErrChar}, {"<!--a\x02-->", 5, api.ErrChar}, {"<!--\x02-->", 4, api.ErrChar}, {"<![CDATA[\x02]]>", 9, api.ErrChar}, {"<!--\x02", 0, api.ErrTag}, {"<![CDATA[\x02", 0, api.ErrTag}, {"<!--\x02--x", 0, api.ErrTag},
 		// Within one tag what occurs first counts.
 		{`<a b="&x;" b="1">`, 6, api.ErrName}, {`<a b="1" b="&x;">`, 12, api.ErrName}, {`<a b="1" b="&x;`, 0, api.ErrTag}, {`<a b="&x;" c`, 6, api.ErrName},
 		{`<a b="&x;`, 0, api.ErrTag}, {`<a c b="&x;">`, 0, api.ErrTag}, {`<a b="1" b="2" c="&x;">`, 0, api.ErrTag},

@@ -232,6 +232,17 @@ func TestCounts(t *testing.T) {
 	}
 }
 
+// free makes all cells of a model ask for nothing.
+func free(m *api.Model) {
+	for _, d := range m.Decisions {
+		for _, r := range d.Rules {
+			for i := range r.Cells {
+				r.Cells[i] = api.Tests{Any: true}
+			}
+		}
+	}
+}
+
 func TestSound(t *testing.T) {
 	for i, spoil := range []func(m *api.Model){
 		func(m *api.Model) { m.Inputs = nil }, func(m *api.Model) { m.Decisions = nil }, func(m *api.Model) { m.Inputs = make([]api.Input, 7) }, func(m *api.Model) { m.Inputs[0].Name = "if" }, func(m *api.Model) { m.Inputs[1].Name = "x" }, func(m *api.Model) { m.Decisions[0].Name = "x" }, func(m *api.Model) { m.Decisions[0].Name = "" },
@@ -243,6 +254,7 @@ func TestSound(t *testing.T) {
 		func(m *api.Model) { m.Decisions[0].Policy = 0 }, func(m *api.Model) { m.Decisions[0].Policy = '+' }, func(m *api.Model) { m.Decisions[0].Policy = '#' }, func(m *api.Model) { m.Decisions[0].Rules = nil }, func(m *api.Model) { m.Decisions[0].Rules = make([]api.Rule, 7) }, func(m *api.Model) { m.Decisions[0].Rules[0].Cells = nil }, func(m *api.Model) { m.Decisions[0].Rules[0].Cells[0] = api.Tests{} }, func(m *api.Model) {
 			m.Decisions[0].Rules[0].Cells[0] = api.Tests{List: []api.Test{{Kind: api.IsValue, Low: num(1, 0)}}}
 		},
+		func(m *api.Model) { m.Decisions[1].Columns[0] = "b"; free(m) }, func(m *api.Model) { m.Decisions[0].Columns[1] = "t"; free(m) }, func(m *api.Model) { m.Decisions[0].Columns[1] = "q"; free(m) },
 		func(m *api.Model) { m.Decisions[0].Rules[0].Output = num(1, 0) }, func(m *api.Model) { m.Decisions[0].Order[1] = num(1, 0) }, func(m *api.Model) { m.Decisions[0].Default = api.Value{Kind: api.Bool, N: 2} }, func(m *api.Model) { m.Decisions[1].Rules[0].Output = num(5, 2) },
 		func(m *api.Model) { m.Decisions[0].Expr = m.Decisions[2].Expr }, func(m *api.Model) { m.Decisions[0].Expr.Name = "a" }, func(m *api.Model) { m.Decisions[0].Table = false }, func(m *api.Model) { m.Decisions[2].Table = true }, func(m *api.Model) { m.Decisions[2].Policy = 'F' }, func(m *api.Model) { m.Decisions[2].Columns = []string{"b"} }, func(m *api.Model) { m.Decisions[2].Rules = make([]api.Rule, 1) }, func(m *api.Model) { m.Decisions[2].Default.Kind = api.Bool }, func(m *api.Model) { m.Decisions[2].Order = make([]api.Value, 1) }, func(m *api.Model) { m.Decisions[2].Expr = api.Expr{} }, func(m *api.Model) { m.Decisions[2].Needs = m.Decisions[2].Needs[:1] },
 	} {

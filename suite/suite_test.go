@@ -183,6 +183,27 @@ func TestSomeModels(t *testing.T) {
 	}
 }
 
+func TestGreaterBudgets(t *testing.T) {
+	size := sample.Size{Inputs: 3, Decisions: 5, Columns: 4, Rules: 5, Items: 3, Expressions: true}
+	for number := range 40 {
+		m := sample.Model(7000+number, size)
+		duties, _ := duty.All(m)
+		before := make([]int, len(duties))
+		for _, budget := range []int{0, 1, 2, 4, 8, 30, 200, api.MaxBoxes, api.Unlimited} {
+			_, r, e := suite.Build(m, budget)
+			if e != api.OK {
+				t.Fatalf("%d: %d", number, e)
+			}
+			for i, v := range r.Verdicts {
+				if before[i] != v && (before[i] == api.Hit || before[i] == api.Unsat) {
+					t.Fatalf("%d, budget %d: duty %v was %d, and is %d", number, budget, duties[i], before[i], v)
+				}
+			}
+			before = r.Verdicts
+		}
+	}
+}
+
 // check compares a suite with the promises.
 func check(t *testing.T, number int, m api.Model, budget int, tests []api.Case, r api.Report) {
 	t.Helper()

@@ -68,6 +68,31 @@ func TestWrongArguments(t *testing.T) {
 	}
 }
 
+func TestReadWrittenAndReadAgain(t *testing.T) {
+	for _, s := range []string{first, mixed, " <!-- x -->" + strings.ReplaceAll(mixed, "><", ">\n<") + "\n"} {
+		m, _, e := model.Load(s)
+		again, f := model.Text(m)
+		if e != api.OK || f != api.OK {
+			t.Fatalf("%d, %d", e, f)
+		}
+		tests, report, _, _ := tool.Run(s, api.Unlimited)
+		if twin, other, _, _ := tool.Run(again, api.Unlimited); twin != tests || other != report || tests == "" {
+			t.Errorf("%s, then %s", tests, twin)
+		}
+	}
+}
+
+func TestErrorsDoNotDependOnTheBudget(t *testing.T) {
+	for _, s := range []string{"", "<model>&x;</model>", strings.Replace(first, "x", "if", 1), strings.Replace(mixed, "999", "true", 1)} {
+		_, _, place, want := tool.Run(s, api.Unlimited)
+		for _, budget := range []int{0, 1, 5, math.MaxInt} {
+			if _, _, at, e := tool.Run(s, budget); at != place || e != want || e == api.OK {
+				t.Errorf("%.30s, %d: %d, %d", s, budget, at, e)
+			}
+		}
+	}
+}
+
 func TestTooManyTests(t *testing.T) {
 	var b strings.Builder
 	b.WriteString(`<model>`)
