@@ -131,7 +131,7 @@ func TestFaults(t *testing.T) {
 		at       string // where the wrong element begins
 		e        api.Errno
 	}{
-		{`<model>`, `<model a="1">`, `<model`, shape}, {`<input name="y"`, `text<input name="y"`, `<model`, api.ErrTag}, {`<decision name="e"`, `<other/><decision name="e"`, `<model`, shape}, {`</model>`, `<input name="z" type="text"/></model>`, `<model`, shape},
+		{`<model>`, `<model a="1">`, `<model`, shape}, {`<input name="y"`, `text<input name="y"`, `<model`, api.ErrTag}, {`<decision name="e"`, `<other/><decision name="e"`, `<other/>`, shape}, {`</model>`, `<input name="z" type="text"/></model>`, `<model`, shape},
 		{`<input name="x" type="number"/><input name="y" type="text"/>`, ``, `<model`, shape}, {`name="x" type`, `type`, `<input type`, shape}, {`name="y" type="text"`, `name="y"`, `<input name="y"`, shape}, {`type="text"`, `type="string"`, `<input name="y"`, shape}, {`name="y"`, `name="if"`, `<input name="if"`, shape}, {`name="y"`, `name="1"`, `<input name="1"`, shape},
 		{`type="text"`, `type="text" color="1"`, `<input name="y"`, shape}, {`type="text"/>`, `type="text">x</input>`, `<input name="y"`, shape}, {`type="text"/>`, `type="text"><a/></input>`, `<input name="y"`, shape}, {`type="number"/>`, `type="number" scale=""/>`, `<input name="x"`, shape}, {`type="number"/>`, `type="number" scale="001"/>`, `<input name="x"`, shape}, {`type="number"/>`, `type="number" scale="-1"/>`, `<input name="x"`, shape}, {`type="number"/>`, `type="number" scale="1x"/>`, `<input name="x"`, shape},
 		{`<need name="e"/>`, `<need/>`, `<need/>`, shape}, {`<need name="e"/>`, `<need name="e" a=""/>`, `<need name="e"`, shape}, {`<need name="e"/>`, `<need name="e">x</need>`, `<need name="e"`, shape}, {`<need name="e"/>`, `<need name="e"><a/></need>`, `<need name="e"`, shape}, {`<need name="e"/>`, `<need name="not"/>`, `<need name="not"`, shape},
@@ -154,6 +154,85 @@ func TestFaults(t *testing.T) {
 		m, at, e := model.Load(s)
 		if at != want || e != c.e || len(m.Inputs) != 0 || len(m.Decisions) != 0 {
 			t.Errorf("%d, %s: %d, %d, want %d, %d", i, c.new, at, e, want, c.e)
+		}
+	}
+}
+
+// places returns the positions in a text of elements at which an element may be
+// put in, with the name of the element that would contain it.
+func places(s string) map[int]string {
+	list := make(map[int]string)
+	var open []string
+	for i := range len(s) {
+		if s[i] != '<' {
+			continue
+		}
+		if len(open) > 0 {
+			list[i] = open[len(open)-1]
+		}
+		tag := s[i+1 : i+strings.IndexByte(s[i:], '>')]
+		if tag[0] == '/' {
+			open = open[:len(open)-1]
+		} else if !strings.HasSuffix(tag, "/") {
+			open = append(open, strings.Fields(tag)[0])
+		}
+	}
+	return list
+}
+
+func TestOtherElements(t *testing.T) {
+	known := map[string][]string{
+		"model": {"input", "decision"}, "decision": {"need", "table", "expression"},
+		"table": {"order", "column", "rule"}, "rule": {"cell", "out"},
+	}
+	seen := make(map[string]int)
+	for at, parent := range places(small) {
+		for _, name := range []string{"x", "model", "input", "decision", "need", "table", "expression", "order", "column", "rule", "cell", "out", "Rule"} {
+			if known[parent] == nil || slices.Contains(known[parent], name) {
+				continue
+			}
+			for _, other := range []string{"<" + name + "/>", "<" + name + ` policy="F"><cell>5</cell></` + name + ">"} {
+				s := small[:at] + other + small[at:]
+				seen[parent]++
+				if m, got, e := model.Load(s); got != at || e != api.ErrShape || len(m.Inputs) != 0 {
+					t.Errorf("%s in %s: %d, %d, want %d, %d", other, parent, got, e, at, api.ErrShape)
+				}
+			}
+		}
+	}
+	for parent := range known {
+		if seen[parent] == 0 {
+			t.Errorf("nothing was put into %s", parent)
+		}
+	}
+}
+
+func TestOtherElementsAndFaults(t *testing.T) {
+	const other = "<x/>"
+	for i, c := range []struct {
+		list []string // pairs: what is replaced, and by what
+		at   string   // where the first wrong element begins
+	}{
+		// What an element lacks, has too much of or in another order is its own fault.
+		{[]string{`<cell>5</cell>`, other}, `<rule`}, {[]string{`<out>1</out>`, other}, `<rule`}, {[]string{`<cell>5</cell>`, other + `<cell>5</cell><cell>6</cell>`}, `<rule`},
+		{[]string{`<out>1</out>`, other, `<cell>5</cell>`, `<cell>5</cell><out>1</out>`}, `<rule`},
+		{[]string{`<column name="x"/><column name="e"/>`, other}, `<table`}, {[]string{`<order>1</order><column name="x"/>`, `<column name="x"/>` + other + `<order>1</order>`}, `<table`},
+		{[]string{`<column name="e"/>`, other + strings.Repeat(`<column name="e"/>`, api.MaxColumns)}, `<table`},
+		{[]string{`<expression>x = 1</expression>`, other}, `<decision name="e"`}, {[]string{`<expression>`, other + `<expression>1</expression><expression>`}, `<decision name="e"`},
+		{[]string{`<input name="x" type="number"/><input name="y" type="text"/>`, other}, `<model`}, {[]string{`</model>`, other + `<input name="z" type="text"/></model>`}, `<model`},
+		// An element that is wrong itself comes before what it contains.
+		{[]string{`<rule>`, `<rule a="">` + other}, `<rule`}, {[]string{`policy="F"`, `policy="X"`, `<order>`, other + `<order>`}, `<table`}, {[]string{`type="bool"`, `type="bools"`, `<expression>`, other + `<expression>`}, `<decision name="e"`}, {[]string{`<model>`, `<model a="">` + other}, `<model`},
+		// Of several elements the first counts.
+		{[]string{`<order>`, other + `<order>`, `<cell>5</cell>`, ``}, other}, {[]string{`<order>`, `<order a="">`, `<rule>`, other + `<rule>`}, `<order`}, {[]string{`<need name="e"/>`, `<need name="if"/>` + other}, `<need name="if"`}, {[]string{`<need name="e"/>`, other + `<need name="if"/>`}, other},
+		{[]string{`<out>1</out>`, `<out a="">1</out>` + other}, `<out`}, {[]string{`<out>1</out>`, other + `<out a="">1</out>`}, other}, {[]string{`<input name="y"`, other + `<input name="if"`}, other}, {[]string{`<cell>true</cell>`, `<x><x/></x><cell>true</cell>`}, `<x><x/>`},
+		// An element that has no child elements isn't as stated if it has one.
+		{[]string{`type="text"/>`, `type="text">` + other + `</input>`}, `<input name="y"`}, {[]string{`<cell>5</cell>`, `<cell>` + other + `</cell>`}, `<cell>` + other}, {[]string{`x = 1<`, other + `<`}, `<expression`},
+		// A stage after the first doesn't count.
+		{[]string{`name="y"`, `name="x"`, `<out>1</out>`, `<out>1</out>` + other}, other}, {[]string{`x = 1`, `x = `, `</decision></model>`, other + `</decision></model>`}, other},
+	} {
+		s := strings.NewReplacer(c.list...).Replace(small)
+		if _, at, e := model.Load(s); at != strings.Index(s, c.at) || e != api.ErrShape {
+			t.Errorf("%d, %v: %d, %d, want %d, %d", i, c.list, at, e, strings.Index(s, c.at), api.ErrShape)
 		}
 	}
 }

@@ -1,6 +1,8 @@
 package model
 
 import (
+	"slices"
+
 	"soffit/api"
 	"soffit/lex"
 	"soffit/policy"
@@ -9,22 +11,37 @@ import (
 )
 
 // shape notes the first element of a wrong shape. What an element has is asked
-// before its child elements are, so they stand where they should.
+// before its child elements are, so those of known names stand where they
+// should.
 func (l *loader) shape(root api.Node) bool {
-	counts, ok := shape.Counts(root, "input", "decision")
+	counts, ok := countsOf(root, "input", "decision")
 	ok = ok && within(counts[0], api.MaxInputs) && within(counts[1], api.MaxDecide)
 	if !l.check(shapeStage, root, ok && root.Name == "model" && shape.Attrs(root) && shape.White(root)) {
 		return false
 	}
 	for _, kid := range root.Kids {
-		if kid.Name == "input" && !l.check(shapeStage, kid, typedShape(kid) && bare(kid)) {
-			return false
+		switch kid.Name {
+		case "input":
+			ok = l.check(shapeStage, kid, typedShape(kid) && bare(kid))
+		case "decision":
+			ok = l.decisionShape(kid)
+		default:
+			ok = l.check(shapeStage, kid, false)
 		}
-		if kid.Name == "decision" && !l.decisionShape(kid) {
+		if !ok {
 			return false
 		}
 	}
 	return true
+}
+
+// countsOf returns how many child elements have each of some names; false: they
+// stand in another order. Those of other names don't count: it is they that are
+// wrong, not the element in which they are.
+func countsOf(n api.Node, names ...string) ([]int, bool) {
+	other := func(kid api.Node) bool { return !slices.Contains(names, kid.Name) }
+	n.Kids = slices.DeleteFunc(slices.Clone(n.Kids), other)
+	return shape.Counts(n, names...)
 }
 
 // bare reports whether an element has neither child elements nor text.
@@ -58,7 +75,7 @@ func few(s string) bool {
 
 // decisionShape notes the first element of a wrong shape in a decision.
 func (l *loader) decisionShape(n api.Node) bool {
-	counts, ok := shape.Counts(n, "need", "table", "expression")
+	counts, ok := countsOf(n, "need", "table", "expression")
 	ok = ok && counts[1]+counts[2] == 1
 	if !l.check(shapeStage, n, ok && typedShape(n) && shape.White(n)) {
 		return false
@@ -69,8 +86,10 @@ func (l *loader) decisionShape(n api.Node) bool {
 			ok = l.check(shapeStage, kid, shape.Attrs(kid, "name") && named(kid) && bare(kid))
 		case "expression":
 			ok = l.check(shapeStage, kid, text(kid))
-		default:
+		case "table":
 			ok = l.tableShape(kid)
+		default:
+			ok = l.check(shapeStage, kid, false)
 		}
 		if !ok {
 			return false
@@ -81,7 +100,7 @@ func (l *loader) decisionShape(n api.Node) bool {
 
 // tableShape notes the first element of a wrong shape in a table.
 func (l *loader) tableShape(n api.Node) bool {
-	counts, ok := shape.Counts(n, "order", "column", "rule")
+	counts, ok := countsOf(n, "order", "column", "rule")
 	sign, _ := tree.Attr(n, "policy")
 	ok = ok && within(counts[1], api.MaxColumns) && within(counts[2], api.MaxRules)
 	ok = ok && shape.Attrs(n, "policy", "default") && len(sign) == 1 && policy.Known(int(sign[0]))
@@ -94,8 +113,10 @@ func (l *loader) tableShape(n api.Node) bool {
 			ok = l.check(shapeStage, kid, text(kid))
 		case "column":
 			ok = l.check(shapeStage, kid, shape.Attrs(kid, "name") && named(kid) && bare(kid))
-		default:
+		case "rule":
 			ok = l.ruleShape(kid, counts[1])
+		default:
+			ok = l.check(shapeStage, kid, false)
 		}
 		if !ok {
 			return false
@@ -106,13 +127,14 @@ func (l *loader) tableShape(n api.Node) bool {
 
 // ruleShape notes the first element of a wrong shape in a rule.
 func (l *loader) ruleShape(n api.Node, columns int) bool {
-	counts, ok := shape.Counts(n, "cell", "out")
+	counts, ok := countsOf(n, "cell", "out")
 	ok = ok && counts[0] == columns && counts[1] == 1
 	if !l.check(shapeStage, n, ok && shape.Attrs(n) && shape.White(n)) {
 		return false
 	}
 	for _, kid := range n.Kids {
-		if !l.check(shapeStage, kid, text(kid)) {
+		known := kid.Name == "cell" || kid.Name == "out"
+		if !l.check(shapeStage, kid, known && text(kid)) {
 			return false
 		}
 	}
