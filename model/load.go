@@ -146,17 +146,18 @@ func (l *loader) value(n api.Node, s string, t api.Type) api.Value {
 	return v
 }
 
-// refers reads a name that must exist, and stand in a list only once.
-func (l *loader) refers(n api.Node, list []string) string {
+// refers reads a name that must be one of some names, and stand in a list only
+// once.
+func (l *loader) refers(n api.Node, names, list []string) string {
 	name, _ := tree.Attr(n, "name")
-	l.check(refStage, n, slices.Contains(l.names, name) && !slices.Contains(list, name))
+	l.check(refStage, n, slices.Contains(names, name) && !slices.Contains(list, name))
 	return name
 }
 
 // decision reads what a decision contains.
 func (l *loader) decision(n api.Node, d *api.Decision) {
 	for _, kid := range tree.Find(n, "need") {
-		d.Needs = append(d.Needs, l.refers(kid, d.Needs))
+		d.Needs = append(d.Needs, l.refers(kid, l.names, d.Needs))
 	}
 	for _, kid := range tree.Find(n, "table") {
 		l.table(kid, d)
@@ -183,9 +184,7 @@ func (l *loader) table(n api.Node, d *api.Decision) {
 		d.Order = append(d.Order, l.value(kid, kid.Text, d.Type))
 	}
 	for _, kid := range tree.Find(n, "column") {
-		name := l.refers(kid, d.Columns)
-		l.check(typeStage, kid, slices.Contains(d.Needs, name))
-		d.Columns = append(d.Columns, name)
+		d.Columns = append(d.Columns, l.refers(kid, d.Needs, d.Columns))
 	}
 	for _, kid := range tree.Find(n, "rule") {
 		d.Rules = append(d.Rules, l.rule(kid, d))
